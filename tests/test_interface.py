@@ -1,0 +1,63 @@
+"""The interface: names, arguments, and where each function, class and method is defined."""
+
+import importlib
+import inspect
+import unittest
+
+FUNCTIONS = {
+    "whatcounts.base.names": ["is_integer(value)", "is_name(value)", "is_letters(value)", "is_text(letters, value)",
+                              "is_signed(letters, value)", "is_pattern(letters, value)", "is_prime(value)"],
+    "whatcounts.pattern.leading": ["is_leading(letters, value)", "factors(letters, pattern)", "halves(letters, pattern)",
+                                   "bracket_of(letters, pattern)", "patterns_of(letters, depth)",
+                                   "free_patterns(letters, depth, *, prime=None)", "how_many(letters, size)"],
+}
+CLASSES = {
+    ("whatcounts.word.words", "Word(letters, runs)"): [
+        "power(number)", "turned(other)", "bracket(other)", "shortest()", "is_plain()"],
+}
+OPERATORS = {"Word": ["__getitem__", "__len__", "__iter__", "__eq__", "__str__", "__mul__", "__invert__"]}
+PROPERTIES = {"Word": ["letters", "runs", "size"]}
+CONSTANTS = {"whatcounts.word.words": {"MAX_RUNS": 200, "MAX_POWER": 400}}
+
+
+def signature_without_self(function):
+    parameters = list(inspect.signature(function).parameters.values())
+    return str(inspect.Signature(parameters[1:]))
+
+
+class InterfaceTest(unittest.TestCase):
+    def test_functions(self):
+        for module, functions in FUNCTIONS.items():
+            for told in functions:
+                name = told.partition("(")[0]
+                function = getattr(importlib.import_module(module), name)
+                self.assertEqual(name + str(inspect.signature(function)), told)
+                self.assertEqual(function.__module__, module)
+
+    def test_classes(self):
+        for (module, told), methods in CLASSES.items():
+            name = told.partition("(")[0]
+            some = getattr(importlib.import_module(module), name)
+            self.assertEqual(some.__module__, module)
+            self.assertEqual(name + str(inspect.signature(some)), told)
+            for method in methods:
+                body = vars(some)[method.partition("(")[0]]
+                self.assertEqual(method.partition("(")[0] + signature_without_self(body), method)
+            for operator in OPERATORS[name]:
+                self.assertIn(operator, vars(some))
+            for attribute in PROPERTIES[name]:
+                self.assertIsInstance(vars(some)[attribute], property)
+
+    def test_class_method_of_words(self):
+        words = importlib.import_module("whatcounts.word.words")
+        self.assertIsInstance(vars(words.Word)["of"], classmethod)
+        self.assertEqual(str(inspect.signature(words.Word.of)), "(letters, text)")
+
+    def test_constants(self):
+        for module, constants in CONSTANTS.items():
+            for name, value in constants.items():
+                self.assertEqual(getattr(importlib.import_module(module), name), value)
+
+
+if __name__ == "__main__":
+    unittest.main()

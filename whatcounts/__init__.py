@@ -1,0 +1,1 @@
+"""What counts can tell: functions on texts as sums of scattered counts."""

@@ -1,0 +1,1 @@
+"""Names, checks and texts that all other parts use."""

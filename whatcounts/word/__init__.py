@@ -1,0 +1,1 @@
+"""Words, told by their runs."""
