@@ -4,6 +4,8 @@ import itertools
 import unittest
 
 from whatcounts.errors import InvalidNumber, TooMany
+from whatcounts.sums.sums import Sum
+from whatcounts.tally.tallies import Tally
 from whatcounts.word.words import Word
 
 MOST = 10 ** 200 - 1
@@ -44,7 +46,8 @@ def every_kind():
     strings += ["a" * 400, "a" * 401, "b" * 4000, "ab" * 2000, "aB" * 2000, "~" * 4000, "a" * 3999 + "\n"]
     others = [True, False, None, (), (1,), ("a",), ("a", 1), (("a", 1),), [], [1], ["a"], [["a", 1]], {}, {"a": 1}]
     others += [{1: "a"}, {"": 0}, {"a": ((1,),)}, {("a", 1): None}, deep(10), (None, True), ("", ""), (0, 1, 2)]
-    objects = [Word("ab", ()), Word("ab", (("a", 1),))]
+    objects = [Word("ab", ()), Word("ab", (("a", 1),)), Sum("ab", {"ab": 1}), Sum("a", {}, prime=2)]
+    objects += [Tally("a", (), {"a": ()}, ()), Tally("a", (1,), {"a": ((1,),)}, (1,), prime=3)]
     return integers + strings + others + objects
 
 

@@ -3,11 +3,17 @@
 import unittest
 
 from whatcounts.base import names
+from whatcounts.count import counts
 from whatcounts.pattern import leading
+from whatcounts.sums import overlays, sums
+from whatcounts.tally import tallies
 from whatcounts.word import words
 
 VALUES = r'''
 >>> SWAP = Word.of("ab", "abAB")
+>>> AB = Sum("ab", {"ab": 1})
+>>> CROSS = tally_of(AB)
+>>> GROW = Tally("a", (1, 0), {"a": ((1, 1), (1, 0))}, (1, 0))
 '''
 
 NAMES = r'''
@@ -30,10 +36,40 @@ LEADING = r'''
 [('a', 'b', 'ab', 'aab', 'abb'), ('a', 'b', 'aa', 'ab', 'bb'), ('a', 'aa', 'aaaa'), [2, 1, 2, 3, 6], 48]
 '''
 
+COUNTS = r'''
+>>> [count(SWAP, "ab"), count(SWAP, "ba"), count(SWAP, "aba"), count(Word("ab", (("a", 10 ** 30), ("b", -2))), "abb") == 3 * 10 ** 30, beginnings(Word.of("ab", "aab"), "aab"), binomial(-2, 3)]
+[1, -1, -1, True, (1, 2, 1, 1), -4]
+>>> [list(scattered("ab", "abab", "ab")), weight("ab", "ab", lambda text: text.count("a") * text.count("b")), weight("a", "aa", lambda text: len(text) ** 2), weights_up_to("a", 4, lambda text: len(text) ** 2)]
+[[(0, 1), (0, 3), (2, 3)], 1, 2, {'a': 1, 'aa': 2}]
+'''
+
+SUMS = r'''
+>>> some = Sum("ab", {"ab": 1, "": -2, "b": 0})
+>>> [some.weights, some.degree, some.at("aabb"), some.at_word(SWAP), some.behind("b").weights, some.ahead("a").weights, some.modulo(2).weights, some.times(3).at("ab"), str(some)]
+[{'': -2, 'ab': 1}, 2, 2, -1, {'': -2, 'a': 1, 'ab': 1}, {'': -2, 'b': 1, 'ab': 1}, {'ab': 1}, -3, 'sum of 2 counts over ab']
+>>> one, other = Sum("ab", {"a": 1}), Sum("ab", {"b": 1})
+>>> [(one * other).weights, (one * one).weights, (one - one).degree, len(one + other), str(AB.modulo(3)), (one * one).modulo(2) == one.modulo(2)]
+[{'ab': 1, 'ba': 1}, {'a': 1, 'aa': 2}, None, 2, 'sum of 1 counts over ab, modulo 3', True]
+'''
+
+OVERLAYS = r'''
+>>> [overlays("ab", "a", "ab"), overlays("ab", "a", "a"), binomial_of(one, 2).weights, binomial_of(one + other, 2).weights, turned_round(AB).weights, renamed(AB, "xz").weights]
+[(('ab', 1), ('aab', 2), ('aba', 1)), (('a', 1), ('aa', 2)), {'aa': 1}, {'aa': 1, 'ab': 1, 'ba': 1, 'bb': 1}, {'ba': 1}, {'xz': 1}]
+>>> [led(AB, {"a": "ab", "b": "b"}).weights, led(AB, {"x": "ab"}).weights, led(one, {"x": "aab", "y": ""}).weights]
+[{'a': 1, 'aa': 1, 'ab': 1}, {'x': 1, 'xx': 1}, {'x': 2}]
+'''
+
+TALLIES = r'''
+>>> [CROSS.at("aabb"), GROW.at("aaaa"), (CROSS + CROSS).at("ab"), (CROSS * CROSS).at("aab"), CROSS.behind("b").at("aa"), CROSS.ahead("a").at("bb"), CROSS.back().at("ba"), CROSS.modulo(2).at("aab")]
+[4, 5, 2, 4, 2, 2, 1, 0]
+>>> [weighed(CROSS).at("ab"), weighed(CROSS).at("aab"), weighed(GROW).at("aa"), summed(CROSS).at("aab"), summed(weighed(GROW)).at("aaa"), len(GROW), str(GROW)]
+[1, 0, 1, 4, 3, 2, 'tally of 2 numbers over a']
+'''
+
 
 def public_names():
     found = {}
-    for module in (names, words, leading):
+    for module in (names, words, leading, counts, sums, overlays, tallies):
         found.update({name: value for name, value in vars(module).items() if not name.startswith("_")})
     return found
 
@@ -67,6 +103,20 @@ class ExamplesTest(unittest.TestCase):
 
     def test_leading(self):
         self.assertEqual(self.follow(LEADING), 2)
+
+    def test_counts(self):
+        self.assertEqual(self.follow(COUNTS), 2)
+
+    def test_sums(self):
+        self.assertEqual(self.follow(SUMS), 2)
+
+    def test_overlays(self):
+        # these examples go on with the values of those of the sums
+        self.follow(SUMS)
+        self.assertEqual(self.follow(OVERLAYS), 2)
+
+    def test_tallies(self):
+        self.assertEqual(self.follow(TALLIES), 2)
 
 
 if __name__ == "__main__":

@@ -181,7 +181,7 @@ class PureTest(unittest.TestCase):
 
     def test_nothing_is_changed(self):
         reached = self.reached()
-        self.assertGreater(len(reached), 10)
+        self.assertGreater(len(reached), 40)
         for path, function in reached:
             fresh = self.fresh_names(function)
             for node in ast.walk(function):

@@ -10,14 +10,29 @@ FUNCTIONS = {
     "whatcounts.pattern.leading": ["is_leading(letters, value)", "factors(letters, pattern)", "halves(letters, pattern)",
                                    "bracket_of(letters, pattern)", "patterns_of(letters, depth)",
                                    "free_patterns(letters, depth, *, prime=None)", "how_many(letters, size)"],
+    "whatcounts.count.counts": ["count(word, pattern)", "beginnings(word, pattern)", "binomial(number, size)",
+                                "scattered(letters, text, pattern)", "weight(letters, pattern, call)",
+                                "weights_up_to(letters, depth, call)"],
+    "whatcounts.sums.overlays": ["overlays(letters, one, other)", "binomial_of(total, size)", "turned_round(total)",
+                                 "renamed(total, letters)", "led(total, words)"],
+    "whatcounts.tally.tallies": ["tally_of(total)", "weighed(tally)", "summed(tally)"],
 }
 CLASSES = {
     ("whatcounts.word.words", "Word(letters, runs)"): [
         "power(number)", "turned(other)", "bracket(other)", "shortest()", "is_plain()"],
+    ("whatcounts.sums.sums", "Sum(letters, weights, *, prime=None)"): [
+        "at(text)", "at_word(word)", "times(number)", "behind(text)", "ahead(text)", "modulo(prime)"],
+    ("whatcounts.tally.tallies", "Tally(letters, first, moves, last, *, prime=None)"): [
+        "at(text)", "times(number)", "behind(text)", "ahead(text)", "back()", "modulo(prime)"],
 }
-OPERATORS = {"Word": ["__getitem__", "__len__", "__iter__", "__eq__", "__str__", "__mul__", "__invert__"]}
-PROPERTIES = {"Word": ["letters", "runs", "size"]}
-CONSTANTS = {"whatcounts.word.words": {"MAX_RUNS": 200, "MAX_POWER": 400}}
+OPERATORS = {"Word": ["__getitem__", "__len__", "__iter__", "__eq__", "__str__", "__mul__", "__invert__"],
+             "Sum": ["__add__", "__sub__", "__mul__", "__len__", "__eq__", "__str__"],
+             "Tally": ["__add__", "__sub__", "__mul__", "__len__", "__eq__", "__str__"]}
+PROPERTIES = {"Word": ["letters", "runs", "size"], "Sum": ["letters", "prime", "weights", "degree"],
+              "Tally": ["letters", "first", "moves", "last", "prime"]}
+CONSTANTS = {"whatcounts.word.words": {"MAX_RUNS": 200, "MAX_POWER": 400}, "whatcounts.count.counts": {"MAX_WEIGHT": 12},
+             "whatcounts.sums.sums": {"MAX_DEGREE": 12, "MAX_WEIGHTS": 400}, "whatcounts.sums.overlays": {"MAX_OVERLAY": 8},
+             "whatcounts.tally.tallies": {"MAX_WIDTH": 60}}
 
 
 def signature_without_self(function):

@@ -5,6 +5,7 @@ import random
 
 from tests.helpers import MOST, Case, Slot, is_plain_integer, is_some_letters, is_some_text, wrong_ones
 from whatcounts.errors import InvalidLetters, InvalidNumber, InvalidOperation, InvalidText, InvalidWord
+from whatcounts.sums.sums import Sum
 from whatcounts.word import words
 from whatcounts.word.words import Word
 
@@ -197,7 +198,7 @@ class WordErrorsTest(Case):
 
     def test_operators(self):
         word = Word.of("ab", "ab")
-        for other in [*WRONG_WORDS, Word("a", ()), Word.of("abc", "ab"), Word("bc", ())]:
+        for other in [*WRONG_WORDS, Word("a", ()), Word.of("abc", "ab"), Word("bc", ()), Sum("ab", {"ab": 1})]:
             self.raised(InvalidOperation, lambda: word * other)
         self.raised(InvalidOperation, lambda: Word("ab", alternating(200)) * Word("abc", alternating(200)))
 

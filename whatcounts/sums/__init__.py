@@ -1,0 +1,1 @@
+"""Sums of weights times counts."""

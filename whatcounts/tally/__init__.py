@@ -1,0 +1,1 @@
+"""Tallies, which reckon a number letter by letter."""
