@@ -4,7 +4,9 @@ import itertools
 import unittest
 
 from whatcounts.errors import InvalidNumber, TooMany
+from whatcounts.reader.readers import Reader
 from whatcounts.sums.sums import Sum
+from whatcounts.table.tables import Table
 from whatcounts.tally.tallies import Tally
 from whatcounts.word.words import Word
 
@@ -48,6 +50,8 @@ def every_kind():
     others += [{1: "a"}, {"": 0}, {"a": ((1,),)}, {("a", 1): None}, deep(10), (None, True), ("", ""), (0, 1, 2)]
     objects = [Word("ab", ()), Word("ab", (("a", 1),)), Sum("ab", {"ab": 1}), Sum("a", {}, prime=2)]
     objects += [Tally("a", (), {"a": ()}, ()), Tally("a", (1,), {"a": ((1,),)}, (1,), prime=3)]
+    objects += [Reader("ab", {"a": (1, 0), "b": (0, 1)}, (0,)), Reader("a", {"a": (0,)}, ())]
+    objects += [Table("ab", 1, (1, -1)), Table("a", 2, (1, 0), prime=2)]
     return integers + strings + others + objects
 
 

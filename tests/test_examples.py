@@ -5,8 +5,10 @@ import unittest
 from whatcounts.base import names
 from whatcounts.count import counts
 from whatcounts.pattern import leading
+from whatcounts.reader import least, readers
 from whatcounts.sums import overlays, sums
-from whatcounts.tally import tallies
+from whatcounts.table import tables
+from whatcounts.tally import ranks, tallies
 from whatcounts.word import words
 
 VALUES = r'''
@@ -14,6 +16,9 @@ VALUES = r'''
 >>> AB = Sum("ab", {"ab": 1})
 >>> CROSS = tally_of(AB)
 >>> GROW = Tally("a", (1, 0), {"a": ((1, 1), (1, 0))}, (1, 0))
+>>> EVEN = Reader("ab", {"a": (1, 0), "b": (0, 1)}, (0,))
+>>> PAIR = Reader("ab", {"a": (1, 0, 3, 2), "b": (0, 2, 1, 3)}, (0, 1))
+>>> ENDS = Reader("ab", {"a": (1, 1), "b": (0, 0)}, (1,))
 '''
 
 NAMES = r'''
@@ -66,10 +71,40 @@ TALLIES = r'''
 [1, 0, 1, 4, 3, 2, 'tally of 2 numbers over a']
 '''
 
+RANKS = r'''
+>>> [rank(CROSS), new_beginnings(CROSS), new_ends(CROSS), rank(GROW), rank(CROSS - CROSS), first_text(CROSS), parting_text(CROSS, CROSS.times(2)), are_alike(CROSS, tally_of(AB + AB - AB))]
+[3, ('', 'a', 'ab'), ('', 'b', 'ab'), 2, 0, 'ab', 'ab', True]
+>>> lean = least_tally(CROSS.modulo(2))
+>>> [lean.first, lean.moves["a"], lean.moves["b"], lean.last, rank(CROSS.modulo(2).times(2)), len(least_tally((CROSS + CROSS).modulo(2)))]
+[(1, 0, 0), ((0, 1, 0), (1, 0, 0), (1, 1, 1)), ((1, 0, 0), (0, 0, 1), (0, 1, 0)), (0, 0, 1), 0, 0]
+'''
+
+READERS = r'''
+>>> ["aab" in PAIR, "ab" in PAIR, PAIR.led(1, "b"), "b" in ~EVEN, len(EVEN & ENDS), "aa" in (EVEN & ENDS), "a" in (EVEN ^ ENDS), list(EVEN.texts(2)), str(PAIR)]
+[True, False, 2, False, 4, True, True, ['aa', 'bb'], 'reader of 4 states over ab']
+>>> [EVEN.behind("a").yes, EVEN.ahead("a").moves, EVEN.ahead("a").yes, "abc" in EVEN, (EVEN | ~EVEN).yes]
+[(1,), {'a': (1, 0), 'b': (0, 1)}, (1,), False, (0, 1)]
+'''
+
+LEAST = r'''
+>>> [least_reader(PAIR) == PAIR, len(least_reader(EVEN | ~EVEN)), parting(EVEN, PAIR), parting(PAIR, ~~PAIR), first_merge(ENDS), first_merge(PAIR), is_merge(ENDS, ("b", "bb", "aa")), is_turning(EVEN)]
+[True, 1, 'a', None, ('a', '', 'a'), None, True, True]
+>>> [answers(PAIR).at("aab"), answers(ENDS, prime=3).at("b"), reader_where(AB.modulo(2), 0) == PAIR, reader_where(Sum("a", {"a": 1}, prime=3), 2).moves, reader_where(Sum("a", {"aa": 1}, prime=2), 1).yes]
+[1, 0, True, {'a': (1, 2, 0)}, (2, 3)]
+'''
+
+TABLES = r'''
+>>> [Table.of(SWAP, 2).entries, Table.of(SWAP, 2, prime=2).entries, Table.of(SWAP, 2, prime=2).order(), Table.of(a, 3, prime=2).order(), Table.of(a, 3, prime=2).power(2).entries[:3], Table.of(SWAP, 3).number(AB)]
+[(0, 0, 0, 1, -1, 0), (0, 0, 0, 1, 1, 0), 2, 4, (0, 0, 1), 1]
+>>> odd = Table("ab", 2, (1, 1, 0, 0, 0, 0))
+>>> [(odd * odd).entries, (~odd).entries, odd.power(10 ** 20)["a"], odd.modulo(3).power(3) == Table.unit("ab", 2, prime=3), str(odd.modulo(3)), Table.of(SWAP, 3).cut(2) == Table.of(SWAP, 2)]
+[(2, 2, 1, 1, 1, 1), (-1, -1, 1, 1, 1, 1), 100000000000000000000, True, 'table of depth 2 over ab, modulo 3', True]
+'''
+
 
 def public_names():
     found = {}
-    for module in (names, words, leading, counts, sums, overlays, tallies):
+    for module in (names, words, leading, counts, sums, overlays, tallies, ranks, readers, least, tables):
         found.update({name: value for name, value in vars(module).items() if not name.startswith("_")})
     return found
 
@@ -117,6 +152,20 @@ class ExamplesTest(unittest.TestCase):
 
     def test_tallies(self):
         self.assertEqual(self.follow(TALLIES), 2)
+
+    def test_ranks(self):
+        self.assertEqual(self.follow(RANKS), 2)
+
+    def test_readers(self):
+        self.assertEqual(self.follow(READERS), 2)
+
+    def test_least_readers(self):
+        self.assertEqual(self.follow(LEAST), 2)
+
+    def test_tables(self):
+        # these examples go on with the values of those of the words
+        self.follow(WORDS)
+        self.assertEqual(self.follow(TABLES), 2)
 
 
 if __name__ == "__main__":

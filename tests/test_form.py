@@ -26,7 +26,9 @@ NamedTuple TypedDict TYPE_CHECKING abstractmethod""".split()
 NODES = (ast.Try, ast.Global, ast.AsyncFunctionDef, ast.AsyncFor, ast.AsyncWith, ast.Await, ast.GeneratorExp, ast.Import,
          ast.AnnAssign, ast.Match, ast.YieldFrom, ast.Div, ast.MatMult, ast.AugAssign, ast.NamedExpr)
 CHANGES = ["append", "clear", "extend", "insert", "pop", "remove", "reverse", "setdefault", "update", "add", "discard", "sort"]
-ALONE = ["__init__", "__eq__", "__str__", "__len__", "__iter__", "__getitem__", "__mul__", "__add__", "__sub__", "__invert__"]
+ALONE = ["__init__", "__eq__", "__str__", "__len__", "__iter__", "__getitem__", "__mul__", "__add__", "__sub__", "__invert__",
+         "__contains__", "__and__", "__or__", "__xor__"]
+LIBRARY = {"math": ["gcd", "lcm", "isqrt", "comb", "perm", "factorial"]}
 
 
 def walk_all():
@@ -80,13 +82,16 @@ class FormTest(unittest.TestCase):
         for path, tree in TREES.items():
             imports = [node for node in ast.walk(tree) if isinstance(node, ast.ImportFrom)]
             self.assertTrue(all(node in tree.body for node in imports))
-            uses[module_of(path)] = [node.module for node in imports]
+            uses[module_of(path)] = [node.module for node in imports if node.module not in LIBRARY]
             names = [alias.name for node in imports for alias in node.names]
             self.assertEqual(len(names), len(set(names)), path)
             self.assertTrue(all(alias.asname is None for node in imports for alias in node.names))
             used = {node.id for node in ast.walk(tree) if isinstance(node, ast.Name)}
             self.assertEqual(set(names) - used, set(), path)
             for node in imports:
+                if node.module in LIBRARY:
+                    self.assertLessEqual({alias.name for alias in node.names}, set(LIBRARY[node.module]))
+                    continue
                 target = TREES[ROOT / (node.module.replace(".", "/") + ".py")]
                 defined = {some.name for some in target.body if isinstance(some, (ast.FunctionDef, ast.ClassDef))}
                 defined |= {some.targets[0].id for some in target.body if isinstance(some, ast.Assign)}
@@ -136,11 +141,23 @@ class FormTest(unittest.TestCase):
                 if node.func.attr in METHODS:
                     self.assertFalse(node.keywords, (path, node.lineno))
 
+    def test_attributes(self):
+        own = {function.name for _, function in functions()}
+        stored = {node.attr for _, node in walk_all() if isinstance(node, ast.Attribute) and isinstance(node.ctx, ast.Store)}
+        self.assertFalse(stored & own)
+
+    def test_generators(self):
+        telling = [function.name for _, function in functions() if any(isinstance(node, ast.Yield) for node in ast.walk(function))]
+        names = [function.name for _, function in functions()]
+        for name in telling:
+            self.assertEqual(names.count(name), 1)
+            self.assertNotIn(name, METHODS)
+
     def test_sets_are_not_stored(self):
         for path, node in walk_all():
             if isinstance(node, ast.Call) and isinstance(node.func, ast.Name) and node.func.id == "set":
                 parents = [some for some in ast.walk(TREES[path]) if isinstance(some, ast.Call) and node in some.args]
-                self.assertEqual([some.func.id for some in parents], ["sorted"], (path, node.lineno))
+                self.assertIn([some.func.id for some in parents], (["sorted"], ["len"]), (path, node.lineno))
             self.assertNotIsInstance(node, (ast.Set, ast.SetComp))
 
 

@@ -16,6 +16,11 @@ FUNCTIONS = {
     "whatcounts.sums.overlays": ["overlays(letters, one, other)", "binomial_of(total, size)", "turned_round(total)",
                                  "renamed(total, letters)", "led(total, words)"],
     "whatcounts.tally.tallies": ["tally_of(total)", "weighed(tally)", "summed(tally)"],
+    "whatcounts.tally.ranks": ["rank(tally)", "new_beginnings(tally)", "new_ends(tally)", "first_text(tally)",
+                               "parting_text(one, other)", "are_alike(one, other)", "least_tally(tally)"],
+    "whatcounts.reader.least": ["least_reader(reader)", "parting(one, other)", "first_merge(reader)",
+                                "is_merge(reader, value)", "is_turning(reader)", "answers(reader, *, prime=None)",
+                                "reader_where(total, rest)"],
 }
 CLASSES = {
     ("whatcounts.word.words", "Word(letters, runs)"): [
@@ -24,15 +29,25 @@ CLASSES = {
         "at(text)", "at_word(word)", "times(number)", "behind(text)", "ahead(text)", "modulo(prime)"],
     ("whatcounts.tally.tallies", "Tally(letters, first, moves, last, *, prime=None)"): [
         "at(text)", "times(number)", "behind(text)", "ahead(text)", "back()", "modulo(prime)"],
+    ("whatcounts.reader.readers", "Reader(letters, moves, yes)"): [
+        "led(state, text)", "behind(text)", "ahead(text)", "texts(size)"],
+    ("whatcounts.table.tables", "Table(letters, depth, entries, *, prime=None)"): [
+        "power(number)", "order()", "cut(depth)", "with_entry(pattern, entry)", "modulo(prime)", "number(total)"],
 }
+CLASS_METHODS = {("whatcounts.word.words", "Word"): ["of(letters, text)"],
+                 ("whatcounts.table.tables", "Table"): ["of(word, depth, *, prime=None)",
+                                                        "unit(letters, depth, *, prime=None)"]}
 OPERATORS = {"Word": ["__getitem__", "__len__", "__iter__", "__eq__", "__str__", "__mul__", "__invert__"],
              "Sum": ["__add__", "__sub__", "__mul__", "__len__", "__eq__", "__str__"],
-             "Tally": ["__add__", "__sub__", "__mul__", "__len__", "__eq__", "__str__"]}
+             "Tally": ["__add__", "__sub__", "__mul__", "__len__", "__eq__", "__str__"],
+             "Reader": ["__invert__", "__and__", "__or__", "__xor__", "__contains__", "__len__", "__eq__", "__str__"],
+             "Table": ["__getitem__", "__mul__", "__invert__", "__len__", "__eq__", "__str__"]}
 PROPERTIES = {"Word": ["letters", "runs", "size"], "Sum": ["letters", "prime", "weights", "degree"],
-              "Tally": ["letters", "first", "moves", "last", "prime"]}
+              "Tally": ["letters", "first", "moves", "last", "prime"], "Reader": ["letters", "moves", "yes"],
+              "Table": ["letters", "depth", "entries", "prime"]}
 CONSTANTS = {"whatcounts.word.words": {"MAX_RUNS": 200, "MAX_POWER": 400}, "whatcounts.count.counts": {"MAX_WEIGHT": 12},
              "whatcounts.sums.sums": {"MAX_DEGREE": 12, "MAX_WEIGHTS": 400}, "whatcounts.sums.overlays": {"MAX_OVERLAY": 8},
-             "whatcounts.tally.tallies": {"MAX_WIDTH": 60}}
+             "whatcounts.tally.tallies": {"MAX_WIDTH": 60}, "whatcounts.reader.readers": {"MAX_STATES": 60}}
 
 
 def signature_without_self(function):
@@ -63,10 +78,13 @@ class InterfaceTest(unittest.TestCase):
             for attribute in PROPERTIES[name]:
                 self.assertIsInstance(vars(some)[attribute], property)
 
-    def test_class_method_of_words(self):
-        words = importlib.import_module("whatcounts.word.words")
-        self.assertIsInstance(vars(words.Word)["of"], classmethod)
-        self.assertEqual(str(inspect.signature(words.Word.of)), "(letters, text)")
+    def test_class_methods(self):
+        for (module, name), methods in CLASS_METHODS.items():
+            some = getattr(importlib.import_module(module), name)
+            for told in methods:
+                method = told.partition("(")[0]
+                self.assertIsInstance(vars(some)[method], classmethod)
+                self.assertEqual(method + str(inspect.signature(getattr(some, method))), told)
 
     def test_constants(self):
         for module, constants in CONSTANTS.items():

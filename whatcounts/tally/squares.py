@@ -23,6 +23,11 @@ def turned_square(square):
     return tuple([tuple(column) for column in zip(*square)])
 
 
+def unit_row(place, width):
+    """The row that is 1 at a place and 0 elsewhere."""
+    return tuple([1 if at == place else 0 for at in range(width)])
+
+
 def scaled_row(row, number):
     """The row of so many times the numbers."""
     return tuple([number * part for part in row])

@@ -1,0 +1,1 @@
+"""Readers, which answer yes or no state by state."""
