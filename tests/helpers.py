@@ -4,6 +4,7 @@ import itertools
 import unittest
 
 from whatcounts.errors import InvalidNumber, TooMany
+from whatcounts.group.turns import Group
 from whatcounts.reader.readers import Reader
 from whatcounts.sums.sums import Sum
 from whatcounts.table.tables import Table
@@ -52,6 +53,7 @@ def every_kind():
     objects += [Tally("a", (), {"a": ()}, ()), Tally("a", (1,), {"a": ((1,),)}, (1,), prime=3)]
     objects += [Reader("ab", {"a": (1, 0), "b": (0, 1)}, (0,)), Reader("a", {"a": (0,)}, ())]
     objects += [Table("ab", 1, (1, -1)), Table("a", 2, (1, 0), prime=2)]
+    objects += [Group("ab", {"a": (1, 0), "b": (0, 1)}), Group("a", {"a": (0,)})]
     return integers + strings + others + objects
 
 

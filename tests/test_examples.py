@@ -4,10 +4,11 @@ import unittest
 
 from whatcounts.base import names
 from whatcounts.count import counts
+from whatcounts.group import falling, parts, turns
 from whatcounts.pattern import leading
 from whatcounts.reader import least, readers
 from whatcounts.sums import overlays, sums
-from whatcounts.table import tables
+from whatcounts.table import tables, truth
 from whatcounts.tally import ranks, tallies
 from whatcounts.word import words
 
@@ -101,10 +102,36 @@ TABLES = r'''
 [(2, 2, 1, 1, 1, 1), (-1, -1, 1, 1, 1, 1), 100000000000000000000, True, 'table of depth 2 over ab, modulo 3', True]
 '''
 
+TRUTH = r'''
+>>> [is_true(Table.of(SWAP, 3)), is_true(odd), first_fault(odd), is_fault(odd, ("b", "a")), does_follow(odd, "b", "b"), exponents(Table.of(Word.of("ab", "ba"), 3)), exponents(Table.of(Word.of("ab", "ba"), 2, prime=2)), is_true(odd.modulo(2))]
+[True, False, ('a', 'b'), True, True, (1, 1, -1, 1, -1), (1, 1, 0, 1, 0), False]
+>>> [by_free("ab", 2, (1, 1, 0)).entries, by_free("ab", 2, (1, 1, 0, 0, 0), prime=2).entries, free_values(odd.modulo(2)), how_many_true("ab", 2, 2), how_many_true("ab", 2, 3), how_many_true("ab", 3, 2), paper(Table.of(SWAP, 2)), is_paper(odd, ("fault", "b", "a"))]
+[(1, 1, 0, 0, 1, 0), (1, 1, 0, 0, 1, 0), (1, 1, 0, 0, 0), 32, 27, 128, ('word', (0, 0, 1)), True]
+'''
+
+TURNS = r'''
+>>> four, six = Group.of(PAIR), Group("a", {"a": (1, 2, 3, 4, 5, 0)})
+>>> [four.turn(a * b), four.order(a * b), len(four.all_turns()), four.text_for((3, 2, 1, 0)), four.text_for((1, 2, 3, 0)), (0, 1, 2, 3) in four, six.turn(Word("a", (("a", 10 ** 30),))), str(four)]
+[(2, 0, 3, 1), 4, 8, 'abab', None, True, (4, 5, 0, 1, 2, 3), 'group of 4 points over ab']
+>>> [joint((1, 0, 2), (0, 2, 1)), undone_turn((1, 2, 0)), turn_order((1, 0, 3, 4, 2)), spanned(3, ((1, 2, 0),)), len(spanned(3, ((1, 0, 2), (0, 2, 1)))), spanned(2, ())]
+[(2, 0, 1), (2, 0, 1), 6, ((0, 1, 2), (1, 2, 0), (2, 0, 1)), 6, ((0, 1),)]
+>>> Group.of(ENDS)
+raises NotTurning('a')
+'''
+
+PARTS = r'''
+>>> three = Group("ab", {"a": (1, 0, 2), "b": (0, 2, 1)})
+>>> [falling(four, 2, 2), falling(four, 2, 3), fall_sizes(four, 2), fall_depth(four, 2), fall_depth(four, 3), fall_sizes(Group("a", {"a": (1, 2, 3, 4, 5, 6, 7, 0)}), 2), fall_depth(six, 2)]
+[((0, 1, 2, 3), (3, 2, 1, 0)), ((0, 1, 2, 3),), (8, 2, 1), 2, None, (8, 4, 2, 2, 1), None]
+>>> [prime_parts(six), comes_apart(six), comes_apart(three), prime_part(six, Word.of("a", "a"), 2), prime_part(six, Word.of("a", "a"), 3), first_clash(three), is_clash(three, ("ab", "b"))]
+[{2: ((0, 1, 2, 3, 4, 5), (3, 4, 5, 0, 1, 2)), 3: ((0, 1, 2, 3, 4, 5), (2, 3, 4, 5, 0, 1), (4, 5, 0, 1, 2, 3))}, True, False, (3, 4, 5, 0, 1, 2), (4, 5, 0, 1, 2, 3), ('a', 'ab'), True]
+'''
+
 
 def public_names():
     found = {}
-    for module in (names, words, leading, counts, sums, overlays, tallies, ranks, readers, least, tables):
+    for module in (names, words, leading, counts, sums, overlays, tallies, ranks, readers, least, tables, truth, turns,
+                   falling, parts):
         found.update({name: value for name, value in vars(module).items() if not name.startswith("_")})
     return found
 
@@ -127,8 +154,16 @@ class ExamplesTest(unittest.TestCase):
             else:
                 compared += 1
                 with self.subTest(code=code):
-                    self.assertEqual(repr(eval(code, self.known)), told)
+                    self.assertEqual(self.told_by(code), told)
         return compared
+
+    def told_by(self, code):
+        """What the code gives; of an error its name and what it keeps."""
+        try:
+            return repr(eval(code, self.known))
+        except Exception as error:
+            kept = ", ".join(repr(value) for value in vars(error).values())
+            return f"raises {type(error).__name__}({kept})"
 
     def test_names(self):
         self.assertEqual(self.follow(NAMES), 1)
@@ -166,6 +201,22 @@ class ExamplesTest(unittest.TestCase):
         # these examples go on with the values of those of the words
         self.follow(WORDS)
         self.assertEqual(self.follow(TABLES), 2)
+
+    def test_truth(self):
+        # these examples go on with the values of those of the tables
+        self.follow(WORDS)
+        self.follow(TABLES)
+        self.assertEqual(self.follow(TRUTH), 2)
+
+    def test_turns(self):
+        self.follow(WORDS)
+        self.assertEqual(self.follow(TURNS), 3)
+
+    def test_parts(self):
+        # these examples go on with the values of those of the turns
+        self.follow(WORDS)
+        self.follow(TURNS)
+        self.assertEqual(self.follow(PARTS), 2)
 
 
 if __name__ == "__main__":

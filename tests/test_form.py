@@ -146,6 +146,17 @@ class FormTest(unittest.TestCase):
         stored = {node.attr for _, node in walk_all() if isinstance(node, ast.Attribute) and isinstance(node.ctx, ast.Store)}
         self.assertFalse(stored & own)
 
+    def test_properties_and_class_methods(self):
+        kinds = {}
+        for _, node in walk_all():
+            if isinstance(node, ast.ClassDef):
+                for some in [some for some in node.body if isinstance(some, ast.FunctionDef)]:
+                    marks = [mark.id for mark in some.decorator_list]
+                    kinds.setdefault(some.name, set()).add(marks[0] if marks else "plain")
+        self.assertFalse([name for name, marks in kinds.items() if len(marks) > 1])
+        self.assertLessEqual(set().union(*kinds.values()), {"plain", "property", "classmethod"})
+        self.assertFalse([name for name, marks in kinds.items() if "plain" not in marks and name in METHODS])
+
     def test_generators(self):
         telling = [function.name for _, function in functions() if any(isinstance(node, ast.Yield) for node in ast.walk(function))]
         names = [function.name for _, function in functions()]

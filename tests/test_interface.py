@@ -21,6 +21,16 @@ FUNCTIONS = {
     "whatcounts.reader.least": ["least_reader(reader)", "parting(one, other)", "first_merge(reader)",
                                 "is_merge(reader, value)", "is_turning(reader)", "answers(reader, *, prime=None)",
                                 "reader_where(total, rest)"],
+    "whatcounts.table.truth": ["does_follow(table, one, other)", "is_true(table)", "first_fault(table)",
+                               "is_fault(table, value)", "free_values(table)",
+                               "by_free(letters, depth, numbers, *, prime=None)", "exponents(table)",
+                               "by_exponents(letters, depth, numbers, *, prime=None)",
+                               "how_many_true(letters, depth, prime)", "paper(table)", "is_paper(table, value)",
+                               "word_of(table)"],
+    "whatcounts.group.turns": ["joint(one, other)", "undone_turn(turn)", "turn_order(turn)", "spanned(points, turns)"],
+    "whatcounts.group.falling": ["falling(group, prime, size)", "fall_sizes(group, prime)", "fall_depth(group, prime)"],
+    "whatcounts.group.parts": ["prime_parts(group)", "comes_apart(group)", "prime_part(group, word, prime)",
+                               "first_clash(group)", "is_clash(group, value)"],
 }
 CLASSES = {
     ("whatcounts.word.words", "Word(letters, runs)"): [
@@ -33,21 +43,25 @@ CLASSES = {
         "led(state, text)", "behind(text)", "ahead(text)", "texts(size)"],
     ("whatcounts.table.tables", "Table(letters, depth, entries, *, prime=None)"): [
         "power(number)", "order()", "cut(depth)", "with_entry(pattern, entry)", "modulo(prime)", "number(total)"],
+    ("whatcounts.group.turns", "Group(letters, moves)"): ["turn(word)", "order(word)", "all_turns()", "text_for(value)"],
 }
 CLASS_METHODS = {("whatcounts.word.words", "Word"): ["of(letters, text)"],
                  ("whatcounts.table.tables", "Table"): ["of(word, depth, *, prime=None)",
-                                                        "unit(letters, depth, *, prime=None)"]}
+                                                        "unit(letters, depth, *, prime=None)"],
+                 ("whatcounts.group.turns", "Group"): ["of(reader)"]}
 OPERATORS = {"Word": ["__getitem__", "__len__", "__iter__", "__eq__", "__str__", "__mul__", "__invert__"],
              "Sum": ["__add__", "__sub__", "__mul__", "__len__", "__eq__", "__str__"],
              "Tally": ["__add__", "__sub__", "__mul__", "__len__", "__eq__", "__str__"],
              "Reader": ["__invert__", "__and__", "__or__", "__xor__", "__contains__", "__len__", "__eq__", "__str__"],
-             "Table": ["__getitem__", "__mul__", "__invert__", "__len__", "__eq__", "__str__"]}
+             "Table": ["__getitem__", "__mul__", "__invert__", "__len__", "__eq__", "__str__"],
+             "Group": ["__contains__", "__len__", "__eq__", "__str__"]}
 PROPERTIES = {"Word": ["letters", "runs", "size"], "Sum": ["letters", "prime", "weights", "degree"],
               "Tally": ["letters", "first", "moves", "last", "prime"], "Reader": ["letters", "moves", "yes"],
-              "Table": ["letters", "depth", "entries", "prime"]}
+              "Table": ["letters", "depth", "entries", "prime"], "Group": ["letters", "moves"]}
 CONSTANTS = {"whatcounts.word.words": {"MAX_RUNS": 200, "MAX_POWER": 400}, "whatcounts.count.counts": {"MAX_WEIGHT": 12},
              "whatcounts.sums.sums": {"MAX_DEGREE": 12, "MAX_WEIGHTS": 400}, "whatcounts.sums.overlays": {"MAX_OVERLAY": 8},
-             "whatcounts.tally.tallies": {"MAX_WIDTH": 60}, "whatcounts.reader.readers": {"MAX_STATES": 60}}
+             "whatcounts.tally.tallies": {"MAX_WIDTH": 60}, "whatcounts.reader.readers": {"MAX_STATES": 60},
+             "whatcounts.group.turns": {"MAX_POINTS": 60, "MAX_TURNS": 2000}}
 
 
 def signature_without_self(function):

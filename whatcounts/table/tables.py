@@ -8,7 +8,7 @@ from whatcounts.base.texts import all_texts
 from whatcounts.count.shared import counts_in_runs
 from whatcounts.errors import InvalidOperation, InvalidPattern, InvalidTable
 from whatcounts.sums.sums import check_sum
-from whatcounts.table.products import product_of, raised_table
+from whatcounts.table.products import dict_of_entries, product_of, raised_table
 from whatcounts.tally.squares import rest_row
 from whatcounts.word.words import check_word
 
@@ -159,8 +159,7 @@ class Table:
         return raised_table(self._table(), number, self._depth)
 
     def _table(self):
-        patterns = all_texts(self._letters, self._depth)
-        return {pattern: entry for pattern, entry in zip(patterns, (1,) + self._entries)}
+        return dict_of_entries(self._letters, self._depth, self._entries)
 
     def _with(self, table):
         entries = [entry for pattern, entry in table.items() if pattern != ""]

@@ -1,0 +1,1 @@
+"""Groups of turns."""
