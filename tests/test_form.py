@@ -28,6 +28,7 @@ NODES = (ast.Try, ast.Global, ast.AsyncFunctionDef, ast.AsyncFor, ast.AsyncWith,
 CHANGES = ["append", "clear", "extend", "insert", "pop", "remove", "reverse", "setdefault", "update", "add", "discard", "sort"]
 ALONE = ["__init__", "__eq__", "__str__", "__len__", "__iter__", "__getitem__", "__mul__", "__add__", "__sub__", "__invert__",
          "__contains__", "__and__", "__or__", "__xor__"]
+COMPREHENSIONS = (ast.ListComp, ast.SetComp, ast.DictComp)
 LIBRARY = {"math": ["gcd", "lcm", "isqrt", "comb", "perm", "factorial"]}
 
 
@@ -43,6 +44,11 @@ def functions():
 
 def module_of(path):
     return ".".join(path.relative_to(ROOT).with_suffix("").parts)
+
+
+def targets_of(comprehension):
+    """The variables of a comprehension."""
+    return {node.id for each in comprehension.generators for node in ast.walk(each.target) if isinstance(node, ast.Name)}
 
 
 def bound_names(function):
@@ -123,6 +129,18 @@ class FormTest(unittest.TestCase):
                 self.assertFalse(function.name.startswith("__") and function.name not in ALONE, function.name)
                 loaded = {node.id for node in ast.walk(function) if isinstance(node, ast.Name)}
                 self.assertLessEqual(loaded, names | defined | set(BUILTINS), (path, function.name))
+
+    def test_names_in_comprehensions(self):
+        """A comprehension inside another one has names of its own."""
+        for path, function in functions():
+            inner = {id(name) for some in ast.walk(function) if isinstance(some, COMPREHENSIONS)
+                     for each in some.generators for name in ast.walk(each.target)}
+            outer = {argument.arg for argument in ast.walk(function) if isinstance(argument, ast.arg)}
+            outer |= {node.id for node in ast.walk(function) if isinstance(node, ast.Name) and id(node) not in inner
+                      and not isinstance(node.ctx, ast.Load)}
+            for some in [node for node in ast.walk(function) if isinstance(node, COMPREHENSIONS)]:
+                for other in [node for node in ast.walk(some) if isinstance(node, COMPREHENSIONS) and node is not some]:
+                    self.assertFalse(targets_of(other) & (outer | targets_of(some)), (path, other.lineno))
 
     def test_words(self):
         for path in FILES:

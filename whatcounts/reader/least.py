@@ -16,8 +16,8 @@ def least_reader(reader):
     kinds = kinds_of_states(reader)
     # the first text that leads to a kind leads to the first of its states that is reached
     first = {}
-    for state in first_texts(reader.moves, 0):
-        first.setdefault(kinds[state], state)
+    for reached in first_texts(reader.moves, 0):
+        first.setdefault(kinds[reached], reached)
     number = numbered(first)
     moves = {
         letter: tuple([number[kinds[row[state]]] for state in first.values()])

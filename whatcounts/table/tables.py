@@ -109,7 +109,9 @@ class Table:
         if pattern == "":
             raise InvalidPattern("the entry at the empty pattern is always 1")
         check_integer(entry)
-        return self._with({**self._table(), pattern: entry})
+        table = self._table()
+        table[pattern] = entry
+        return self._with(table)
 
     def modulo(self, prime):
         """The table of the rests."""

@@ -79,9 +79,9 @@ def least_tally(tally):
     search = beginning_search(tally)
     found = new_texts(search)[0]
     span = RestSpan(prime)
-    for at, text in enumerate(found):
+    for at, new in enumerate(found):
         # behind each row stands which of the new beginnings it is
-        span.put(span.left(search.seen(text) + unit_row(at, len(found))))
+        span.put(span.left(search.seen(new) + unit_row(at, len(found))))
     moves = {
         letter: tuple([shares(span, search.seen(text + letter), len(found)) for text in found])
         for letter in tally.letters

@@ -1,11 +1,11 @@
 """The texts whose rows of numbers are no sums of multiples of those of texts ahead of them."""
 
-from whatcounts.tally.proofs import common_rows, is_combined
+from whatcounts.tally.proofs import are_sums, basis_of_rows
 from whatcounts.tally.spans import RestSpan, WholeSpan, first_place
 from whatcounts.tally.squares import dot, rest_row, rest_square
 
 # so many bits of 1 are a prime
-PRIME_BITS = (127, 607, 2203, 9941)
+PRIME_BITS = (127, 607, 2203)
 
 
 class Search:
@@ -50,6 +50,10 @@ class Search:
         row = self.row(text)
         return row if self.looks is None else rest_row([dot(look, row) for look in self.looks], self.modulus)
 
+    def all_seen(self, texts):
+        """The list of what the rows of some texts are at the looks."""
+        return [self.seen(text) for text in texts]
+
 
 def new_texts(search):
     """The list of the new texts, in order, and a basis of what their rows are, `None` if it is all rows."""
@@ -84,7 +88,7 @@ def basis_of(span, width):
 
 
 def proven(search, rests):
-    """What `new_texts` tells, for integers, or `None` if the rests modulo a great prime do not show it.
+    """What `new_texts` tells, for integers, or `None` if the rests modulo a great prime are those of others.
 
     Rows whose rests are no sums of multiples of others are none themselves. For those whose rests are, it is proved
     with the integers; there is nothing to prove once there are as many rows as places.
@@ -98,7 +102,7 @@ def proven(search, rests):
             left = span.left(rests.seen(text))
             if first_place(left) is None:
                 sums.append(text)
-            elif not sums or are_sums(search, span, found + new, sums):
+            elif not sums or are_sums(search.all_seen(found + new), search.all_seen(sums), span):
                 sums = []
                 span.put(left)
                 new.append(text)
@@ -106,15 +110,7 @@ def proven(search, rests):
                 return None
         found.extend(new)
         level = search.longer(new)
-    if len(found) < search.width and not are_sums(search, span, found, sums):
-        return None
-    return found, None if len(found) == search.width else common_rows(span)
-
-
-def are_sums(search, span, found, sums):
-    """Whether it is proved that the rows of some texts are sums of multiples of those of the texts found."""
-    basis = common_rows(span)
-    if basis is None:
-        return False
-    pivots = list(span.rows)
-    return all([is_combined(search.seen(text), pivots, basis) for text in found + sums])
+    if len(found) == search.width:
+        return found, None
+    rows = search.all_seen(found)
+    return (found, basis_of_rows(rows, span)) if are_sums(rows, search.all_seen(sums), span) else None

@@ -1,6 +1,6 @@
 """Rows of numbers, and whether others are sums of multiples of them."""
 
-from math import gcd
+from math import gcd, isqrt
 
 
 class RestSpan:
@@ -90,12 +90,19 @@ def fraction_of(rest, modulus):
 
     `None` if there is no such fraction.
     """
+    most = isqrt(modulus // 2)
     one, other = modulus, rest % modulus
     times, next_times = 0, 1
-    while 2 * other * other > modulus:
-        share = one // other
-        one, other = other, one - share * other
+    while other > most:
+        share, less = divmod(one, other)
+        one, other = other, less
         times, next_times = next_times, times - share * next_times
-    if 2 * next_times * next_times > modulus or gcd(other, next_times) != 1:
+    if abs(next_times) > most or gcd(other, next_times) != 1:
         return None
     return (other, next_times) if next_times > 0 else (-other, -next_times)
+
+
+def nearest(number, modulus):
+    """The integer with the rest of a number that is nearest to 0."""
+    rest = number % modulus
+    return rest - modulus if 2 * rest > modulus else rest
