@@ -10,6 +10,7 @@ from whatcounts.reader import least, readers
 from whatcounts.sums import overlays, sums
 from whatcounts.table import tables, truth
 from whatcounts.tally import ranks, tallies
+from whatcounts.tell import depth, finite, modulo, prime
 from whatcounts.word import words
 
 VALUES = r'''
@@ -127,11 +128,41 @@ PARTS = r'''
 [{2: ((0, 1, 2, 3, 4, 5), (3, 4, 5, 0, 1, 2)), 3: ((0, 1, 2, 3, 4, 5), (2, 3, 4, 5, 0, 1), (4, 5, 0, 1, 2, 3))}, True, False, (3, 4, 5, 0, 1, 2), (4, 5, 0, 1, 2, 3), ('a', 'ab'), True]
 '''
 
+FINITE = r'''
+>>> [sum_of(CROSS) == AB, sum_of(GROW), is_finite(GROW), tell_paper(CROSS), is_tell_paper(GROW, ("endless", "aa")), is_tell_paper(GROW, ("endless", "a")), degree_of(CROSS * CROSS), degree_of(CROSS - CROSS)]
+[True, None, False, ('sum', (('ab', 1),)), True, False, 4, None]
+>>> [is_finite(GROW.modulo(2)), sum_of(answers(EVEN, prime=2)).weights, is_finite(answers(EVEN)), sum_of(Tally("a", (1,), {"a": ((1,),)}, (5,))).weights, tell_paper(CROSS - CROSS)]
+[False, {'': 1, 'a': 1}, False, {'': 5}, ('sum', ())]
+'''
+
+PRIME = r'''
+>>> [is_by(EVEN, 2), is_by(EVEN, 3), sum_by(PAIR, 2).weights, sum_by(EVEN, 3), is_round(EVEN, 3, ("a", 2)), is_round(EVEN, 2, ("a", 2)), prime_paper(EVEN, 3)[0], is_prime_paper(EVEN, 3, ("round", "abaa", 2))]
+[True, False, {'': 1, 'ab': 1}, None, True, False, 'round', True]
+>>> [prime_paper(ENDS, 2)[0], is_prime_paper(ENDS, 2, ("merge", "a", "", "a")), prime_paper(EVEN, 2), primes_of(EVEN), primes_of(ENDS), primes_of(EVEN | ~EVEN), sum_by(EVEN | ~EVEN, 7).weights]
+['merge', True, ('sum', (('', 1), ('a', 1))), (2,), (), (2, 3, 5, 7), {'': 1}]
+'''
+
+DEPTH = r'''
+>>> [depth_by(PAIR, 2), depth_by(EVEN, 2), depth_by(EVEN, 3), depth_by(ENDS, 2), depth_by(EVEN | ~EVEN, 5), does_hang(PAIR, 2, 1), does_hang(PAIR, 2, 3), does_hang(ENDS, 2, 5)]
+[2, 1, None, None, 0, False, True, False]
+>>> [is_depth_paper(PAIR, 2, 1, ("pair", "ab", "ba")), depth_paper(PAIR, 2, 2), is_depth_paper(EVEN, 3, 2, ("pair", "", "aaa")), is_depth_paper(EVEN, 3, 3, ("pair", "", "aaa")), answer_at(PAIR, Table.of(SWAP, 2, prime=2)), answer_at(EVEN, Table.unit("ab", 1, prime=2))]
+[True, ('hangs',), True, False, False, True]
+'''
+
+MODULO = r'''
+>>> SIX = Reader("a", {"a": (1, 2, 3, 4, 5, 0)}, (0,))
+>>> TRI = Reader("ab", {"a": (1, 0, 2), "b": (0, 2, 1)}, (0,))
+>>> [depth_modulo(SIX, 6), depth_modulo(SIX, 2), depth_modulo(SIX, 30), depth_modulo(PAIR, 2), depth_modulo(TRI, 6), least_modulus(SIX), least_modulus(TRI), least_modulus(EVEN | ~EVEN)]
+[1, None, 1, 2, None, 6, None, 2]
+>>> [is_modulus(4), is_modulus(210), modulo_paper(SIX, 6), is_modulo_paper(SIX, 2, ("round", "a", 6)), is_modulo_paper(TRI, 6, ("apart", "a", "ab")), is_modulo_paper(TRI, 2, ("round", "ab", 3)), modulo_paper(ENDS, 6)[0]]
+[False, True, ('depth', 1), True, True, True, 'merge']
+'''
+
 
 def public_names():
     found = {}
     for module in (names, words, leading, counts, sums, overlays, tallies, ranks, readers, least, tables, truth, turns,
-                   falling, parts):
+                   falling, parts, finite, prime, depth, modulo):
         found.update({name: value for name, value in vars(module).items() if not name.startswith("_")})
     return found
 
@@ -217,6 +248,18 @@ class ExamplesTest(unittest.TestCase):
         self.follow(WORDS)
         self.follow(TURNS)
         self.assertEqual(self.follow(PARTS), 2)
+
+    def test_finite(self):
+        self.assertEqual(self.follow(FINITE), 2)
+
+    def test_prime(self):
+        self.assertEqual(self.follow(PRIME), 2)
+
+    def test_depth(self):
+        self.assertEqual(self.follow(DEPTH), 2)
+
+    def test_modulo(self):
+        self.assertEqual(self.follow(MODULO), 2)
 
 
 if __name__ == "__main__":

@@ -31,6 +31,15 @@ FUNCTIONS = {
     "whatcounts.group.falling": ["falling(group, prime, size)", "fall_sizes(group, prime)", "fall_depth(group, prime)"],
     "whatcounts.group.parts": ["prime_parts(group)", "comes_apart(group)", "prime_part(group, word, prime)",
                                "first_clash(group)", "is_clash(group, value)"],
+    "whatcounts.tell.finite": ["is_finite(tally)", "sum_of(tally)", "tell_paper(tally)", "is_tell_paper(tally, value)",
+                               "degree_of(tally)"],
+    "whatcounts.tell.prime": ["is_by(reader, prime)", "sum_by(reader, prime)", "is_round(reader, prime, value)",
+                              "prime_paper(reader, prime)", "is_prime_paper(reader, prime, value)", "primes_of(reader)"],
+    "whatcounts.tell.depth": ["depth_by(reader, prime)", "does_hang(reader, prime, depth)",
+                              "depth_paper(reader, prime, depth)", "is_depth_paper(reader, prime, depth, value)",
+                              "answer_at(reader, table)"],
+    "whatcounts.tell.modulo": ["is_modulus(value)", "depth_modulo(reader, modulus)", "least_modulus(reader)",
+                               "modulo_paper(reader, modulus)", "is_modulo_paper(reader, modulus, value)"],
 }
 CLASSES = {
     ("whatcounts.word.words", "Word(letters, runs)"): [
@@ -61,7 +70,8 @@ PROPERTIES = {"Word": ["letters", "runs", "size"], "Sum": ["letters", "prime", "
 CONSTANTS = {"whatcounts.word.words": {"MAX_RUNS": 200, "MAX_POWER": 400}, "whatcounts.count.counts": {"MAX_WEIGHT": 12},
              "whatcounts.sums.sums": {"MAX_DEGREE": 12, "MAX_WEIGHTS": 400}, "whatcounts.sums.overlays": {"MAX_OVERLAY": 8},
              "whatcounts.tally.tallies": {"MAX_WIDTH": 60}, "whatcounts.reader.readers": {"MAX_STATES": 60},
-             "whatcounts.group.turns": {"MAX_POINTS": 60, "MAX_TURNS": 2000}}
+             "whatcounts.group.turns": {"MAX_POINTS": 60, "MAX_TURNS": 2000},
+             "whatcounts.tell.depth": {"MAX_PAIRS": 20000}}
 
 
 def signature_without_self(function):

@@ -8,7 +8,8 @@ from tests.helpers import MOST, Case
 from tests.test_ranks import Rows, sparse
 from whatcounts.tally.lifts import Lift, common_numbers, inverse_square
 from whatcounts.tally.proofs import are_sums, small_basis
-from whatcounts.tally.ranks import beginning_search, columns_of
+from whatcounts.tally.lean import columns_of
+from whatcounts.tally.ranks import beginning_search
 from whatcounts.tally.searches import PRIME_BITS, Search, new_texts, proven, searched
 from whatcounts.tally.spans import RestSpan, WholeSpan, first_place, fraction_of, inverse_of, nearest, shortened
 

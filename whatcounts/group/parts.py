@@ -60,6 +60,11 @@ def prime_part(group, word, prime):
     turn = group.turn(word)
     if not comes_apart(group):
         raise InvalidOperation("the group does not come apart")
+    return turn_in_part(turn, prime)
+
+
+def turn_in_part(turn, prime):
+    """The turn of the part for a prime that stands in the product for a turn, if the group comes apart."""
     order = order_of(turn)
     power = 1
     while order % (power * prime) == 0:

@@ -1,10 +1,10 @@
 """Least readers, merges, and readers that come of sums."""
 
-from whatcounts.base.checks import check_most, check_some_prime
+from whatcounts.base.checks import check_some_prime
 from whatcounts.base.names import is_integer, is_text
 from whatcounts.errors import InvalidNumber, InvalidOperation
 from whatcounts.reader.readers import MAX_STATES, Reader, check_reader
-from whatcounts.reader.walks import first_pair_texts, first_texts, numbered
+from whatcounts.reader.walks import first_pair_texts, first_texts, numbered, rows_led
 from whatcounts.sums.sums import check_sum
 from whatcounts.tally.squares import unit_row
 from whatcounts.tally.tallies import Tally
@@ -114,28 +114,8 @@ def sums_ahead(total):
     """
     ends = numbered(ends_of(total.weights))
     steps = {letter: [ends.get(letter + end) for end in ends] for letter in total.letters}
-    found = [tuple([total.weights.get(end, 0) for end in ends])]
-    number = {found[0]: 0}
-    moves = {letter: [] for letter in total.letters}
-    at = 0
-    while at < len(found):
-        for letter, step in steps.items():
-            weights = weights_led(found[at], step, total.prime)
-            if weights not in number:
-                number[weights] = len(found)
-                found.append(weights)
-                check_most(len(found), MAX_STATES)
-            moves[letter].append(number[weights])
-        at = at + 1
-    return found, {letter: tuple(row) for letter, row in moves.items()}
-
-
-def weights_led(weights, step, prime):
-    """The weights of the sum with a letter ahead of texts; the step tells the place of each end with that letter."""
-    return tuple([
-        number if longer is None else (number + weights[longer]) % prime
-        for number, longer in zip(weights, step)
-    ])
+    start = tuple([total.weights.get(end, 0) for end in ends])
+    return rows_led(start, steps, total.prime, MAX_STATES)
 
 
 def ends_of(patterns):

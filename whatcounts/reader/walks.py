@@ -1,5 +1,7 @@
 """States to which texts lead, and the texts that lead on to an answer."""
 
+from whatcounts.base.checks import check_most
+
 
 def first_texts(moves, start):
     """The dict from each state to which texts lead on from one to the first such text, in the order of the texts."""
@@ -75,3 +77,30 @@ def next_hope(moves, hopes, text):
             if letter > text[at] and hopes[left][state]:
                 return text[:at] + letter + first_hope(moves, hopes, state, left)
     return None
+
+
+def rows_led(start, steps, prime, most):
+    """The list of the rows of rests to which texts lead one, by the order of the texts, and the moves among them; an
+    error if there are more than so many.
+
+    The step of a letter tells for each place the one whose number is put to it, or `None`.
+    """
+    found = [start]
+    number = {start: 0}
+    moves = {letter: [] for letter in steps}
+    at = 0
+    while at < len(found):
+        for letter, step in steps.items():
+            row = row_led(found[at], step, prime)
+            if row not in number:
+                number[row] = len(found)
+                found.append(row)
+                check_most(len(found), most)
+            moves[letter].append(number[row])
+        at = at + 1
+    return found, {letter: tuple(row) for letter, row in moves.items()}
+
+
+def row_led(row, step, prime):
+    """The row to which a letter leads one."""
+    return tuple([number if put is None else (number + row[put]) % prime for number, put in zip(row, step)])

@@ -16,7 +16,7 @@ class Product:
         self.deep = depth
         self.modulus = prime
         self.patterns = all_texts(letters, depth)
-        self.table = {pattern: 1 if pattern == "" else 0 for pattern in self.patterns}
+        self.told = {pattern: 1 if pattern == "" else 0 for pattern in self.patterns}
 
     def put(self, pattern, exponent):
         """Put the table of a free pattern to the product, raised to an exponent."""
@@ -26,11 +26,11 @@ class Product:
             bracket = rests_of_table(counts, self.modulus)
             # the least pattern at which the bracket has an entry is the leading one
             factor = raised_table(bracket, many * exponent, self.deep // len(leading))
-            self.table = rests_of_table(product_of(self.table, factor), self.modulus)
+            self.told = rests_of_table(product_of(self.told, factor), self.modulus)
 
     def all_entries(self):
         """The tuple of the entries of the product, the one at the empty pattern left out."""
-        return tuple(list(self.table.values())[1:])
+        return tuple(list(self.told.values())[1:])
 
 
 def cut_in_equals(pattern):
@@ -45,7 +45,7 @@ def product_by_values(letters, depth, values, prime):
     exponents = []
     for pattern, number in zip(free_patterns(letters, depth, prime=prime), values):
         # what comes later adds nothing here, and the table of the pattern has the entry 1
-        exponent = rest_of(number - product.table[pattern], prime)
+        exponent = rest_of(number - product.told[pattern], prime)
         product.put(pattern, exponent)
         exponents.append(exponent)
     return tuple(exponents), product.all_entries()

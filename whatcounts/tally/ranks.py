@@ -2,9 +2,9 @@
 
 from whatcounts.base.arithmetic import rest_of
 from whatcounts.errors import InvalidOperation
+from whatcounts.tally.lean import columns_of, lean_of, seen_search
 from whatcounts.tally.searches import Search, new_texts
-from whatcounts.tally.spans import RestSpan
-from whatcounts.tally.squares import dot, joined_square, scaled_row, turned_square, unit_row
+from whatcounts.tally.squares import dot, joined_square, scaled_row, unit_row
 from whatcounts.tally.tallies import Tally, check_tally
 
 
@@ -27,14 +27,8 @@ def new_ends(tally):
 
 
 def beginning_search(tally):
-    """The search for the new beginnings: two rows are the same if they are so at all columns."""
-    columns = new_texts(Search(tally.letters, tally.last, tally.moves, None, True, tally.prime))[1]
-    return Search(tally.letters, tally.first, columns_of(tally.moves), columns, False, tally.prime)
-
-
-def columns_of(moves):
-    """The dict from each letter to the columns of its table."""
-    return {letter: turned_square(square) for letter, square in moves.items()}
+    """The search for the new beginnings."""
+    return seen_search(tally.first, tally.moves, tally.last, tally.prime)
 
 
 def first_text(tally):
@@ -76,21 +70,5 @@ def least_tally(tally):
     prime = tally.prime
     if prime is None:
         raise InvalidOperation("the tally is exact")
-    search = beginning_search(tally)
-    found = new_texts(search)[0]
-    span = RestSpan(prime)
-    for at, new in enumerate(found):
-        # behind each row stands which of the new beginnings it is
-        span.put(span.left(search.seen(new) + unit_row(at, len(found))))
-    moves = {
-        letter: tuple([shares(span, search.seen(text + letter), len(found)) for text in found])
-        for letter in tally.letters
-    }
-    last = tuple([rest_of(dot(search.row(text), tally.last), prime) for text in found])
-    return Tally(tally.letters, unit_row(0, len(found)), moves, last, prime=prime)
-
-
-def shares(span, row, many):
-    """The row of how many times each new beginning stands in a row."""
-    left = span.left(row + (0,) * many)
-    return tuple([-number % span.modulus for number in left[len(row):]])
+    lean = lean_of(tally.first, tally.moves, tally.last, prime)
+    return Tally(tally.letters, unit_row(0, len(lean.found)), lean.squares, lean.column, prime=prime)

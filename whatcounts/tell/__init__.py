@@ -1,0 +1,1 @@
+"""What counts can tell of tallies and readers."""
