@@ -3,12 +3,15 @@
 import itertools
 import unittest
 
+from whatcounts.desk.desk import Desk
 from whatcounts.errors import InvalidNumber, TooMany
+from whatcounts.far.programs import Program
 from whatcounts.group.turns import Group
 from whatcounts.reader.readers import Reader
 from whatcounts.sums.sums import Sum
 from whatcounts.table.tables import Table
 from whatcounts.tally.tallies import Tally
+from whatcounts.text.shell import Shell
 from whatcounts.word.words import Word
 
 MOST = 10 ** 200 - 1
@@ -54,6 +57,7 @@ def every_kind():
     objects += [Reader("ab", {"a": (1, 0), "b": (0, 1)}, (0,)), Reader("a", {"a": (0,)}, ())]
     objects += [Table("ab", 1, (1, -1)), Table("a", 2, (1, 0), prime=2)]
     objects += [Group("ab", {"a": (1, 0), "b": (0, 1)}), Group("a", {"a": (0,)})]
+    objects += [Program.of("ab", "ab"), Program("a", (("text", ""), ("power", 0, 3))), Desk("ab"), Desk("a", prime=2), Shell("ab")]
     return integers + strings + others + objects
 
 

@@ -4,13 +4,17 @@ import unittest
 
 from whatcounts.base import names
 from whatcounts.count import counts
+from whatcounts.desk import desk
+from whatcounts.far import programs
 from whatcounts.group import falling, parts, turns
+from whatcounts.learn import learned
 from whatcounts.pattern import leading
 from whatcounts.reader import least, readers
 from whatcounts.sums import overlays, sums
 from whatcounts.table import tables, truth
 from whatcounts.tally import ranks, tallies
 from whatcounts.tell import depth, finite, modulo, prime
+from whatcounts.text import formats, shell
 from whatcounts.word import words
 
 VALUES = r'''
@@ -158,11 +162,57 @@ MODULO = r'''
 [False, True, ('depth', 1), True, True, True, 'merge']
 '''
 
+FAR = r'''
+>>> far = Program("ab", (("text", "ab"), ("power", 0, 10 ** 30), ("text", "b"), ("join", 1, 2)))
+>>> [far.size == 2 * 10 ** 30 + 1, far[10 ** 30], far_count(far, "a") == 10 ** 30, far_count(far, "ab") == 10 ** 30 * (10 ** 30 + 3) // 2, far_sum(AB.modulo(2), far), far_answer(PAIR, far), far_state(EVEN, 1, far), far_tally(CROSS.modulo(3), far)]
+[True, 'a', True, True, 0, True, 1, 2]
+>>> [newton(AB, "ab"), newton(AB.modulo(2), "ab"), period(AB.modulo(2), "ab"), period(AB.modulo(3), "ab"), newton(AB, "b"), round_of(PAIR, "ab"), round_of(ENDS, "a"), round_of(EVEN, "ba")]
+[(0, 1, 1), (0, 1, 1), 4, 3, (), (0, 4), (1, 1), (0, 2)]
+'''
+
+LEARNED = r'''
+>>> [len(texts_up_to("ab", 3)), texts_up_to("a", 2), learned_reader("ab", 4, lambda text: int(text in PAIR)) == PAIR, learned_reader("ab", 3, lambda text: int(text in PAIR)), learned_reader("a", 1, lambda text: 5).yes]
+[15, ('', 'a', 'aa'), True, None, (0,)]
+>>> [learned_tally("ab", 3, lambda text: AB.at(text), 2) == lean, learned_tally("ab", 2, lambda text: AB.at(text), 2), learned_sum("a", 2, lambda text: len(text) ** 2).weights, first_unlike("ab", 4, lambda text: AB.at(text), lambda text: text.count("ab"))]
+[True, None, {'a': 1, 'aa': 2}, 'aab']
+'''
+
+DESK = r'''
+>>> desk = Desk("ab", prime=2)
+>>> [desk.watch("even", EVEN), desk.watch("pairs", AB.modulo(2)), desk.push("ab"), desk.repeat(10 ** 20), desk.lead("b"), desk.size, desk.number("even"), desk.number("pairs"), desk.numbers("a"), desk.way("even"), desk.names]
+[None, None, None, None, None, 200000000000000000001, 1, 0, {'even': 0, 'pairs': 0}, '', ('even', 'pairs')]
+>>> [desk.hold("even"), desk.held, desk.push("bb"), desk.table(1).entries, desk.undo(many=2), desk.held, desk.redo(), len(desk), desk.during(lambda same: same.push("b")), desk.size, str(desk)]
+[None, ('even',), None, (0, 1), 5, (), 6, 2, None, 200000000000000000001, 'desk of 2 functions over ab']
+>>> desk.push("a")
+raises InvalidOperation
+'''
+
+FORMATS = r'''
+>>> [write_sum(Sum("ab", {"ab": 1, "": -2}, prime=3)).split("\n"), write_reader(ENDS).split("\n"), write_tally(GROW).split("\n"), write_program(far).split("\n")[1:4:2]]
+[['letters ab', 'prime 3', 'weight 1', 'weight 1 ab'], ['letters ab', 'moves a 1 1', 'moves b 0 0', 'yes 1'], ['letters a', 'prime none', 'first 1 0', 'row a 1 1', 'row a 1 0', 'last 1 0'], ['text ab', 'text b']]
+>>> [write_table(Table.of(SWAP, 2, prime=2)).split("\n"), read_reader(write_reader(PAIR)) == PAIR, read_tally(write_tally(GROW)) == GROW, write_value(("merge", ("", -3), None)), read_value("( =aB ( ) )")]
+[['letters ab', 'prime 2', 'depth 2', 'at ab 1', 'at ba 1'], True, True, '( =merge ( = -3 ) none )', ('aB', ())]
+>>> read_sum("letters ab\nprime 2\nweight 2 ab")
+raises ParseError(3)
+>>> read_reader("letters a\nyes 0\nmoves a 0")
+raises ParseError(2)
+'''
+
+SHELL = r'''
+>>> shell = Shell("ab", prime=2)
+>>> [shell("sum pairs 1 =ab 3 ="), shell("reader even a 1 0 b 0 1 yes 0"), shell("push =ab"), shell("repeat 5"), shell("numbers =b"), shell("names"), shell("size"), shell("show pairs").split("\n")]
+['done', 'done', 'done', 'done', 'even 0\npairs 1', 'even pairs', '10', ['letters ab', 'prime 2', 'weight 1', 'weight 1 ab']]
+>>> [shell("merge even"), shell("rank pairs"), shell("period pairs =ab"), shell("round even =a"), shell("merge pairs"), shell("hold even"), shell("push =a"), shell("way even"), shell("count =ab")]
+['none', '3', '4', '0 2', 'operation', 'done', 'operation', '=a', '1']
+>>> [shell("push =c"), shell("number odd"), shell("sum pairs"), shell("reader one a 0 yes"), shell("undo 9"), shell("drop even"), shell("release even"), shell("drop even"), shell("repeat -1")]
+['text', 'unknown odd', 'operation', 'what', 'undo 9', 'operation', 'done', 'done', 'what']
+'''
+
 
 def public_names():
     found = {}
     for module in (names, words, leading, counts, sums, overlays, tallies, ranks, readers, least, tables, truth, turns,
-                   falling, parts, finite, prime, depth, modulo):
+                   falling, parts, finite, prime, depth, modulo, programs, learned, desk, formats, shell):
         found.update({name: value for name, value in vars(module).items() if not name.startswith("_")})
     return found
 
@@ -194,7 +244,7 @@ class ExamplesTest(unittest.TestCase):
             return repr(eval(code, self.known))
         except Exception as error:
             kept = ", ".join(repr(value) for value in vars(error).values())
-            return f"raises {type(error).__name__}({kept})"
+            return f"raises {type(error).__name__}({kept})" if kept else f"raises {type(error).__name__}"
 
     def test_names(self):
         self.assertEqual(self.follow(NAMES), 1)
@@ -260,6 +310,25 @@ class ExamplesTest(unittest.TestCase):
 
     def test_modulo(self):
         self.assertEqual(self.follow(MODULO), 2)
+
+    def test_far(self):
+        self.assertEqual(self.follow(FAR), 2)
+
+    def test_learned(self):
+        # these examples go on with the values of those of the ranks
+        self.follow(RANKS)
+        self.assertEqual(self.follow(LEARNED), 2)
+
+    def test_desk(self):
+        self.assertEqual(self.follow(DESK), 3)
+
+    def test_formats(self):
+        # these examples go on with the values of those of the far texts
+        self.follow(FAR)
+        self.assertEqual(self.follow(FORMATS), 4)
+
+    def test_shell(self):
+        self.assertEqual(self.follow(SHELL), 3)
 
 
 if __name__ == "__main__":

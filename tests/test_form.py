@@ -23,11 +23,13 @@ delattr dir eval exec exit gc getattr globals hasattr help id importlib locals m
 format format_map""".split()
 NO_WORDS = """type typing typing_extensions enum Enum IntEnum StrEnum Flag IntFlag Generic Protocol ABC ABCMeta namedtuple
 NamedTuple TypedDict TYPE_CHECKING abstractmethod""".split()
-NODES = (ast.Try, ast.Global, ast.AsyncFunctionDef, ast.AsyncFor, ast.AsyncWith, ast.Await, ast.GeneratorExp, ast.Import,
+NODES = (ast.Global, ast.AsyncFunctionDef, ast.AsyncFor, ast.AsyncWith, ast.Await, ast.GeneratorExp, ast.Import,
          ast.AnnAssign, ast.Match, ast.YieldFrom, ast.Div, ast.MatMult, ast.AugAssign, ast.NamedExpr)
 CHANGES = ["append", "clear", "extend", "insert", "pop", "remove", "reverse", "setdefault", "update", "add", "discard", "sort"]
 ALONE = ["__init__", "__eq__", "__str__", "__len__", "__iter__", "__getitem__", "__mul__", "__add__", "__sub__", "__invert__",
          "__contains__", "__and__", "__or__", "__xor__"]
+# these may change things
+ACTING = ["__enter__", "__exit__", "__call__"]
 COMPREHENSIONS = (ast.ListComp, ast.SetComp, ast.DictComp)
 LIBRARY = {"math": ["gcd", "lcm", "isqrt", "comb", "perm", "factorial"]}
 
@@ -53,6 +55,7 @@ def targets_of(comprehension):
 
 def bound_names(function):
     names = [argument.arg for argument in ast.walk(function) if isinstance(argument, ast.arg)]
+    names += [node.name for node in ast.walk(function) if isinstance(node, ast.ExceptHandler) and node.name is not None]
     return names + [node.id for node in ast.walk(function) if isinstance(node, ast.Name) and not isinstance(node.ctx, ast.Load)]
 
 
@@ -126,7 +129,7 @@ class FormTest(unittest.TestCase):
                 names = set(bound_names(function))
                 self.assertFalse([name for name in names if hasattr(builtins, name) or name in NO_NAMES], function.name)
                 self.assertFalse(names & outer, (path, function.name))
-                self.assertFalse(function.name.startswith("__") and function.name not in ALONE, function.name)
+                self.assertFalse(function.name.startswith("__") and function.name not in ALONE + ACTING, function.name)
                 loaded = {node.id for node in ast.walk(function) if isinstance(node, ast.Name)}
                 self.assertLessEqual(loaded, names | defined | set(BUILTINS), (path, function.name))
 
@@ -158,6 +161,23 @@ class FormTest(unittest.TestCase):
                 self.assertIn(node.func.attr, own | set(METHODS), (path, node.lineno))
                 if node.func.attr in METHODS:
                     self.assertFalse(node.keywords, (path, node.lineno))
+
+    def test_errors_are_caught_by_name(self):
+        """Own errors alone are caught, and each name of a caught error stands once in a function."""
+        tree = TREES[PACKAGE / "errors.py"]
+        own = {node.name for node in tree.body if isinstance(node, ast.ClassDef)}
+        for path, function in functions():
+            handlers = [node for node in ast.walk(function) if isinstance(node, ast.ExceptHandler)]
+            kept = [handler.name for handler in handlers if handler.name is not None]
+            self.assertEqual(len(kept), len(set(kept)), (path, function.name))
+            for handler in handlers:
+                names = handler.type.elts if isinstance(handler.type, ast.Tuple) else [handler.type]
+                self.assertLessEqual({name.id for name in names}, own, (path, handler.lineno))
+        for path, node in walk_all():
+            if isinstance(node, ast.Raise):
+                self.assertTrue(node.exc is None or isinstance(node.exc, ast.Call), (path, node.lineno))
+            if isinstance(node, ast.Try):
+                self.assertEqual((node.orelse, node.finalbody), ([], []))
 
     def test_attributes(self):
         own = {function.name for _, function in functions()}

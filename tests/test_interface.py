@@ -40,6 +40,18 @@ FUNCTIONS = {
                               "answer_at(reader, table)"],
     "whatcounts.tell.modulo": ["is_modulus(value)", "depth_modulo(reader, modulus)", "least_modulus(reader)",
                                "modulo_paper(reader, modulus)", "is_modulo_paper(reader, modulus, value)"],
+    "whatcounts.far.programs": ["far_count(program, pattern)", "far_sum(total, program)", "far_tally(tally, program)",
+                                "far_table(program, depth, *, prime=None)", "far_state(reader, state, program)",
+                                "far_answer(reader, program)", "newton(total, text)", "period(total, text)",
+                                "round_of(reader, text)"],
+    "whatcounts.learn.learned": ["texts_up_to(letters, size)", "learned_reader(letters, most, call)",
+                                 "learned_tally(letters, most, call, prime)",
+                                 "learned_sum(letters, degree, call, *, prime=None)",
+                                 "first_unlike(letters, size, one, other)"],
+    "whatcounts.text.formats": ["write_word(word)", "write_sum(total)", "write_tally(tally)", "write_reader(reader)",
+                                "write_table(table)", "write_program(program)", "write_value(value)", "read_word(text)",
+                                "read_sum(text)", "read_tally(text)", "read_reader(text)", "read_table(text)",
+                                "read_program(text)", "read_value(text)"],
 }
 CLASSES = {
     ("whatcounts.word.words", "Word(letters, runs)"): [
@@ -53,25 +65,37 @@ CLASSES = {
     ("whatcounts.table.tables", "Table(letters, depth, entries, *, prime=None)"): [
         "power(number)", "order()", "cut(depth)", "with_entry(pattern, entry)", "modulo(prime)", "number(total)"],
     ("whatcounts.group.turns", "Group(letters, moves)"): ["turn(word)", "order(word)", "all_turns()", "text_for(value)"],
+    ("whatcounts.far.programs", "Program(letters, steps)"): ["power(number)", "text()"],
+    ("whatcounts.desk.desk", "Desk(letters, *, prime=None)"): [
+        "push(text)", "lead(text)", "repeat(number)", "watch(name, function)", "drop(name)", "hold(name)", "release(name)",
+        "number(name)", "numbers(text)", "table(depth)", "way(name)", "undo(*, many=1)", "redo(*, many=1)", "trial()",
+        "during(call)", "twin()"],
+    ("whatcounts.text.shell", "Shell(letters, *, prime=None)"): ["desk()", "answer(line)", "__call__(line)"],
 }
 CLASS_METHODS = {("whatcounts.word.words", "Word"): ["of(letters, text)"],
                  ("whatcounts.table.tables", "Table"): ["of(word, depth, *, prime=None)",
                                                         "unit(letters, depth, *, prime=None)"],
-                 ("whatcounts.group.turns", "Group"): ["of(reader)"]}
+                 ("whatcounts.group.turns", "Group"): ["of(reader)"],
+                 ("whatcounts.far.programs", "Program"): ["of(letters, text)"]}
 OPERATORS = {"Word": ["__getitem__", "__len__", "__iter__", "__eq__", "__str__", "__mul__", "__invert__"],
              "Sum": ["__add__", "__sub__", "__mul__", "__len__", "__eq__", "__str__"],
              "Tally": ["__add__", "__sub__", "__mul__", "__len__", "__eq__", "__str__"],
              "Reader": ["__invert__", "__and__", "__or__", "__xor__", "__contains__", "__len__", "__eq__", "__str__"],
              "Table": ["__getitem__", "__mul__", "__invert__", "__len__", "__eq__", "__str__"],
-             "Group": ["__contains__", "__len__", "__eq__", "__str__"]}
+             "Group": ["__contains__", "__len__", "__eq__", "__str__"],
+             "Program": ["__getitem__", "__len__", "__eq__", "__str__", "__add__"],
+             "Desk": ["__getitem__", "__contains__", "__len__", "__iter__", "__eq__", "__str__"],
+             "Shell": ["__call__"]}
 PROPERTIES = {"Word": ["letters", "runs", "size"], "Sum": ["letters", "prime", "weights", "degree"],
               "Tally": ["letters", "first", "moves", "last", "prime"], "Reader": ["letters", "moves", "yes"],
-              "Table": ["letters", "depth", "entries", "prime"], "Group": ["letters", "moves"]}
+              "Table": ["letters", "depth", "entries", "prime"], "Group": ["letters", "moves"],
+              "Program": ["letters", "steps", "size"], "Desk": ["letters", "prime", "size", "names", "held"], "Shell": []}
 CONSTANTS = {"whatcounts.word.words": {"MAX_RUNS": 200, "MAX_POWER": 400}, "whatcounts.count.counts": {"MAX_WEIGHT": 12},
              "whatcounts.sums.sums": {"MAX_DEGREE": 12, "MAX_WEIGHTS": 400}, "whatcounts.sums.overlays": {"MAX_OVERLAY": 8},
              "whatcounts.tally.tallies": {"MAX_WIDTH": 60}, "whatcounts.reader.readers": {"MAX_STATES": 60},
              "whatcounts.group.turns": {"MAX_POINTS": 60, "MAX_TURNS": 2000},
-             "whatcounts.tell.depth": {"MAX_PAIRS": 20000}}
+             "whatcounts.tell.depth": {"MAX_PAIRS": 20000},
+             "whatcounts.far.programs": {"MAX_STEPS": 40, "MAX_SIZE": 10 ** 400}, "whatcounts.desk.desk": {"MAX_WATCHED": 8}}
 
 
 def signature_without_self(function):

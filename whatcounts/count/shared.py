@@ -13,11 +13,21 @@ def starts_of(patterns):
     return tuple(sorted(starts, key=text_order))
 
 
+def parts_of(patterns):
+    """The tuple of all different parts of some patterns, in order, the empty one among them."""
+    parts = {"": True}
+    for pattern in patterns:
+        for start in range(len(pattern)):
+            for end in range(start + 1, len(pattern) + 1):
+                parts[pattern[start:end]] = True
+    return tuple(sorted(parts, key=text_order))
+
+
 def counts_in_text(starts, text):
     """The dict from patterns, of which each beginning is among them, in order, to their counts in a text."""
     place = {start: at for at, start in enumerate(starts)}
     steps = {letter: steps_of(place, letter) for letter in sorted(set(text))}
-    counts = counts_in_nothing(starts)
+    counts = list(counts_in_nothing(starts))
     for letter in text:
         for at, ahead in steps[letter]:
             counts[at] = counts[at] + counts[ahead]
@@ -34,7 +44,7 @@ def counts_in_runs(starts, runs):
     """The dict from patterns, of which each beginning is among them, in order, to their counts in a word."""
     place = {start: at for at, start in enumerate(starts)}
     chains = {letter: chains_of(place, letter) for letter, _ in runs}
-    counts = counts_in_nothing(starts)
+    counts = list(counts_in_nothing(starts))
     for letter, exponent in runs:
         longest = max([len(chain) for chain in chains[letter]], default=1) - 1
         # behind a number from 0 on there are only zeros in its row of C(n, j)

@@ -27,10 +27,21 @@ def raised_table(table, number, many):
 
     The table without the 1 at the empty pattern leaves nothing if it is multiplied more than `many` times.
     """
-    unit = {pattern: 1 if pattern == "" else 0 for pattern in table}
-    rest = {pattern: 0 if pattern == "" else entry for pattern, entry in table.items()}
-    powers = [unit]
-    for _ in range(many):
-        powers.append(product_of(powers[-1], rest))
+    power = {pattern: 1 if pattern == "" else 0 for pattern in table}
+    raised = power
     ways = binomials(number, many)
-    return {pattern: sum([way * power[pattern] for way, power in zip(ways, powers)]) for pattern in table}
+    for size in range(1, many + 1):
+        power = longer_power(power, table, size)
+        raised = {pattern: entry + ways[size] * power.get(pattern, 0) for pattern, entry in raised.items()}
+    return raised
+
+
+def longer_power(power, table, size):
+    """The product of so many of a table without the 1 at the empty pattern, by that of one less.
+
+    It has no entries at patterns of fewer letters.
+    """
+    return {
+        pattern: sum([power[pattern[:end]] * table[pattern[end:]] for end in range(size - 1, len(pattern))])
+        for pattern in table if len(pattern) >= size
+    }

@@ -44,16 +44,24 @@ def lean_of(first, moves, last, prime):
     """The tally with these rests, modulo a prime, in terms of its new beginnings."""
     search = seen_search(first, moves, last, prime)
     found = new_texts(search)[0]
+    squares = lean_squares(search, found, "".join(moves), prime)
+    column = tuple([rest_of(dot(search.row(text), last), prime) for text in found])
+    return Lean("".join(moves), found, squares, column, prime)
+
+
+def lean_squares(search, found, letters, prime):
+    """The dict from letters to tables that tell how the rows of the new beginnings with a letter more come of them.
+
+    A search tells the rows.
+    """
     span = RestSpan(prime)
     for at, new in enumerate(found):
         # behind each row stands which of the new beginnings it is
         span.put(span.left(search.seen(new) + unit_row(at, len(found))))
-    squares = {
+    return {
         letter: tuple([shares(span, search.seen(text + letter), len(found)) for text in found])
-        for letter in moves
+        for letter in letters
     }
-    column = tuple([rest_of(dot(search.row(text), last), prime) for text in found])
-    return Lean("".join(moves), found, squares, column, prime)
 
 
 def shares(span, row, many):

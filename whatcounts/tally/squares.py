@@ -2,6 +2,9 @@
 
 from whatcounts.base.arithmetic import rest_of
 
+# room for the sum of the products of sixty pairs of rests
+SLOT_BITS = 16
+
 
 def dot(one, other):
     """The sum of the products of the numbers of two rows, place by place."""
@@ -73,3 +76,23 @@ def column_ahead(column, moves, text, prime):
     for letter in text[::-1]:
         ahead = rest_row([dot(row, ahead) for row in moves[letter]], prime)
     return ahead
+
+
+def product_square(one, other, prime):
+    """The product of two tables of rests."""
+    rows = [packed_row(row) for row in other]
+    return tuple([unpacked_row(dot(row, rows), len(other), prime) for row in one])
+
+
+def packed_row(row):
+    """One number for a row of rests; sums of multiples of such numbers tell the sums at each place."""
+    number = 0
+    for part in row[::-1]:
+        number = (number << SLOT_BITS) | part
+    return number
+
+
+def unpacked_row(number, width, prime):
+    """The row of the rests that a number tells."""
+    slot = (1 << SLOT_BITS) - 1
+    return tuple([((number >> (SLOT_BITS * at)) & slot) % prime for at in range(width)])

@@ -1,0 +1,1 @@
+"""A desk: a text that grows, and functions that are watched."""

@@ -1,0 +1,1 @@
+"""Far texts, told by programs."""

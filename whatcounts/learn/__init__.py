@@ -1,0 +1,1 @@
+"""Functions told back from their answers."""
