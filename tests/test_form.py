@@ -179,6 +179,24 @@ class FormTest(unittest.TestCase):
             if isinstance(node, ast.Try):
                 self.assertEqual((node.orelse, node.finalbody), ([], []))
 
+    def test_double_underscore_methods(self):
+        """What compares, counts and tells assigns nothing; the end of a block assigns attributes alone."""
+        for path, function in functions():
+            if function.name in ("__eq__", "__len__", "__str__"):
+                self.assertFalse([node for node in ast.walk(function) if isinstance(node, (ast.Assign, ast.For, ast.While))], (path, function.name))
+                self.assertIsInstance(function.body[-1], ast.Return)
+            if function.name == "__exit__":
+                for row in function.body:
+                    self.assertIsInstance(row, ast.Assign)
+                    self.assertIsInstance(row.targets[0], ast.Attribute)
+                    self.assertIsInstance(row.value, (ast.Attribute, ast.Name))
+            if function.name == "__iter__":
+                self.assertEqual(len(function.body), 1)
+        for _, node in walk_all():
+            if isinstance(node, ast.ClassDef):
+                names = [some.name for some in node.body if isinstance(some, ast.FunctionDef)]
+                self.assertTrue("__getitem__" not in names or "__iter__" in names)
+
     def test_attributes(self):
         own = {function.name for _, function in functions()}
         stored = {node.attr for _, node in walk_all() if isinstance(node, ast.Attribute) and isinstance(node.ctx, ast.Store)}

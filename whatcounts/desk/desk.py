@@ -3,7 +3,7 @@
 from whatcounts.base.checks import check_between, check_most, check_some_prime, check_text
 from whatcounts.base.made import Made
 from whatcounts.base.names import MAX_DEPTH, check_letters, is_integer, is_name
-from whatcounts.desk.scenes import count_tool, first_history, size_after, sum_at
+from whatcounts.desk.scenes import are_alike_scenes, count_tool, first_history, size_after, sum_at
 from whatcounts.desk.trials import Trial
 from whatcounts.errors import InvalidName, InvalidNumber, InvalidOperation, NothingToUndo, TooMany, UnknownName
 from whatcounts.far.programs import MAX_SIZE
@@ -14,7 +14,6 @@ from whatcounts.sums.sums import Sum
 from whatcounts.table.tables import Table, check_depth
 
 MAX_WATCHED = 8
-ALIKE_DEPTH = 3
 
 
 class Desk:
@@ -177,13 +176,8 @@ class Desk:
         return iter(self.history.ordered)
 
     def __eq__(self, other):
-        if not isinstance(other, Desk) or self._letters != other._letters or self._prime != other._prime:
-            return False
-        one, two = self.history.now, other.history.now
-        if one.functions != two.functions or one.kept != two.kept or one.text_so_far.many != two.text_so_far.many:
-            return False
-        counts, others = one.text_so_far.counts, two.text_so_far.counts
-        return all([counts[pattern] == others[pattern] for pattern in counts if len(pattern) <= ALIKE_DEPTH])
+        return (isinstance(other, Desk) and self._letters == other._letters and self._prime == other._prime
+                and are_alike_scenes(self.history.now, other.history.now))
 
     def __str__(self):
         return f"desk of {len(self.history.ordered)} functions over {self._letters}"

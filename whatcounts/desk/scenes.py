@@ -6,6 +6,8 @@ from whatcounts.base.texts import all_texts
 from whatcounts.far.tools import CountTool, StateTool
 from whatcounts.sums.sums import Sum
 
+ALIKE_DEPTH = 3
+
 
 class FarText:
     """A text: its number of letters, its counts, and the steps by which it came out of the empty text."""
@@ -83,6 +85,14 @@ class History:
     def moved(self, by):
         """The history in which another scene is now, so many further on."""
         return History(self.scenes, self.at_scene + by)
+
+
+def are_alike_scenes(one, other):
+    """Whether two scenes have equal functions and held names, and texts with as many letters and alike counts."""
+    if one.functions != other.functions or one.kept != other.kept or one.text_so_far.many != other.text_so_far.many:
+        return False
+    counts, others = one.text_so_far.counts, other.text_so_far.counts
+    return all([counts[pattern] == others[pattern] for pattern in counts if len(pattern) <= ALIKE_DEPTH])
 
 
 def first_history(letters):
