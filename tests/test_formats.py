@@ -256,6 +256,17 @@ class ReadTest(Case):
             self.assertEqual(self.raised(ParseError, READERS[kind], text).index, index, text)
             self.check_error(kind, text)
 
+    def test_what_comes_to_too_many_digits(self):
+        """Runs with one letter are put together, which can make their exponent too long to be written."""
+        for signs in (("", ""), ("-", "-")):
+            lines = ["letters ab"] + [f"run a {sign}{MOST}" for sign in signs]
+            self.assertEqual(self.raised(ParseError, read_word, "\n".join(lines)).index, 3)
+        for lines in (["run a 1", f"run a {MOST}"], [f"run a {MOST}"] * 3, [f"run a {MOST}", f"run a -{MOST}"]):
+            self.check_text("word", "\n".join(["letters ab"] + lines))
+        for body in (f"weight {MOST} a\nweight {MOST} a", f"weight {MOST}\nweight {MOST} a"):
+            self.check_text("sum", f"letters ab\nprime none\n{body}")
+        self.check_text("table", f"letters a\nprime none\ndepth 1\nat a {MOST}\nat a {MOST}")
+
     def test_long_texts(self):
         long = "letters ab\n" + "\n".join(["run a 1"] * 20000)
         self.assertEqual(self.raised(ParseError, read_word, long).index, 20001)

@@ -135,9 +135,10 @@ def read_by(text, lines, make, write):
     """What is made of the lines of a text, if it has just this text."""
     try:
         made = make(lines)
+        written = write(made)
     except (CountError, InvalidNumber, TooMany):
         raise ParseError(len(lines)) from None
-    if write(made) != text:
+    if written != text:
         raise ParseError(len(lines))
     return made
 
