@@ -1,6 +1,7 @@
 """Rows of the numbers of a function at texts that go on from one."""
 
-from whatcounts.tally.spans import RestSpan, first_place
+from whatcounts.tally.searches import new_of_level
+from whatcounts.tally.spans import RestSpan
 
 
 class ToldRows:
@@ -43,12 +44,7 @@ def new_of_rows(rows, most, prime):
     found = []
     level = [""]
     while level:
-        new = []
-        for text in level:
-            left = span.left(rows.seen(text))
-            if first_place(left) is not None:
-                span.put(left)
-                new.append(text)
+        new = new_of_level(rows, span, level)
         found.extend(new)
         if len(found) > most:
             return None

@@ -71,15 +71,21 @@ def searched(search, span):
     found = []
     level = [""]
     while level and len(span.rows) < search.width:
-        new = []
-        for text in level:
-            left = span.left(search.seen(text))
-            if first_place(left) is not None:
-                span.put(left)
-                new.append(text)
+        new = new_of_level(search, span, level)
         found.extend(new)
         level = search.longer(new)
     return found, basis_of(span, search.width)
+
+
+def new_of_level(search, span, level):
+    """The list of those of some texts whose rows are no sums of multiples of those in a span; they are put to it."""
+    new = []
+    for text in level:
+        left = span.left(search.seen(text))
+        if first_place(left) is not None:
+            span.put(left)
+            new.append(text)
+    return new
 
 
 def basis_of(span, width):

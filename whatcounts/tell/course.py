@@ -2,7 +2,7 @@
 
 from whatcounts.base.arithmetic import rest_of
 from whatcounts.tally.lean import columns_of, lean_of
-from whatcounts.tally.searches import PRIME_BITS, Search, new_texts
+from whatcounts.tally.searches import PRIME_BITS, Search, new_of_level, new_texts
 from whatcounts.tally.spans import RestSpan, WholeSpan, first_place
 from whatcounts.tally.squares import dot, rest_row, rest_square, unit_row
 from whatcounts.tally.tallies import weighed
@@ -107,22 +107,10 @@ def whole_course(tally):
     behind = new_texts(ends)[0]
     search = Search(tally.letters, tally.first, columns_of(tally.moves), ends.all_seen(behind), False, None)
     size = 0
-    new = new_rows(search, [""])
+    new = new_of_level(search, WholeSpan(), [""])
     while new and size < len(tally):
         size = size + 1
-        new = new_rows(search, search.longer(new))
+        new = new_of_level(search, WholeSpan(), search.longer(new))
     if new:
         return Course(None, new[0] + behind[first_place(search.seen(new[0]))], None, None)
     return Course(size - 1, None, search, tally.last)
-
-
-def new_rows(search, level):
-    """Those of some texts whose rows are no sums of multiples of those of texts ahead of them."""
-    span = WholeSpan()
-    new = []
-    for text in level:
-        left = span.left(search.seen(text))
-        if first_place(left) is not None:
-            span.put(left)
-            new.append(text)
-    return new

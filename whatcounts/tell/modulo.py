@@ -3,12 +3,11 @@
 from whatcounts.base.names import PRIMES, is_integer
 from whatcounts.errors import InvalidNumber
 from whatcounts.group.falling import fall_depth
-from whatcounts.group.moves import order_of
 from whatcounts.group.parts import comes_apart, first_clash, is_clash, prime_divisors, turn_in_part
 from whatcounts.group.turns import Group
 from whatcounts.reader.least import first_merge, is_merge, is_turning
 from whatcounts.reader.readers import check_reader
-from whatcounts.tell.prime import is_text_with_order
+from whatcounts.tell.prime import first_round, has_other_prime, is_text_with_order
 
 ALL_PRIMES = 210
 
@@ -67,17 +66,11 @@ def modulo_paper(reader, modulus):
     if merge is not None:
         return ("merge",) + merge
     group = Group.of(reader)
-    for turn, text in group.turn_texts().items():
-        order = order_of(turn)
-        if has_other_prime(order, modulus):
-            return "round", text, order
+    found = first_round(group, modulus)
+    if found is not None:
+        return ("round",) + found
     clash = first_clash(group)
     return ("depth", group_depth(group, modulus)) if clash is None else ("apart",) + clash
-
-
-def has_other_prime(number, modulus):
-    """Whether some prime divides a number and not a modulus."""
-    return not all([modulus % prime == 0 for prime in prime_divisors(number)])
 
 
 def is_modulo_paper(reader, modulus, value):

@@ -4,7 +4,7 @@ from whatcounts.base.checks import check_prime
 from whatcounts.base.names import PRIMES, is_integer, is_text
 from whatcounts.group.falling import is_power
 from whatcounts.group.moves import order_of
-from whatcounts.group.parts import turn_of_text
+from whatcounts.group.parts import prime_divisors, turn_of_text
 from whatcounts.group.turns import Group
 from whatcounts.reader.least import answers, first_merge, is_merge, is_turning, least_reader
 from whatcounts.reader.readers import check_reader
@@ -37,7 +37,7 @@ def is_round(reader, prime, value):
     check_prime(prime)
     if not is_turning(reader) or not is_text_with_order(Group.of(reader), value):
         return False
-    return not is_power(value[1], prime)
+    return has_other_prime(value[1], prime)
 
 
 def is_text_with_order(group, value):
@@ -59,19 +59,24 @@ def prime_paper(reader, prime):
     total = sum_by(reader, prime)
     if total is not None:
         return "sum", tuple(total.weights.items())
+    # a prime that divides the number of turns divides the order of some turn
     return ("round",) + first_round(Group.of(reader), prime)
 
 
-def first_round(group, prime):
-    """The first text which leads all points back after a number of times that is no power of a prime, and this number.
-
-    There is one if the number of turns is no power of the prime.
+def first_round(group, modulus):
+    """The first text for which some prime divides the least number of times after which it leads all points back, and
+    does not divide a modulus; with this number. `None` if there is no such text.
     """
     for turn, text in group.turn_texts().items():
         order = order_of(turn)
-        if not is_power(order, prime):
+        if has_other_prime(order, modulus):
             return text, order
     return None
+
+
+def has_other_prime(number, modulus):
+    """Whether some prime divides a number and not a modulus."""
+    return not all([modulus % prime == 0 for prime in prime_divisors(number)])
 
 
 def is_prime_paper(reader, prime, value):
