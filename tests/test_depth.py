@@ -256,9 +256,11 @@ class AnswersTest(Case):
 class DepthErrorsTest(Case):
     def test_slots(self):
         reader = Slot(EVEN, READER_SLOT.wrong, InvalidReader)
-        self.check_slots(depth_by, [reader, PRIME_SLOT])
-        for call in (does_hang, depth_paper):
-            self.check_slots(call, [reader, PRIME_SLOT, DEPTH_SLOT])
+        # a reader that is not turning has no depth, whatever the prime, but the prime is checked
+        for right in (reader, Slot(ENDS, READER_SLOT.wrong, InvalidReader)):
+            self.check_slots(depth_by, [right, PRIME_SLOT])
+            for call in (does_hang, depth_paper):
+                self.check_slots(call, [right, PRIME_SLOT, DEPTH_SLOT])
         for value in (None, ("hangs",), ("pair", "", "a")):
             self.check_slots(lambda *parts: is_depth_paper(*parts, value), [reader, PRIME_SLOT, DEPTH_SLOT])
         table = Slot(Table.unit("ab", 2, prime=2), wrong_ones(lambda value: isinstance(value, Table)), InvalidTable)

@@ -597,6 +597,9 @@ class EqualityTest(Case):
         unlike[7].push("aabb")
         exact, letters = Desk("ab"), Desk("abc", prime=2)
         self.check_equality(make, [*unlike, exact, letters])
+        new = [Desk(letters, prime=prime) for letters in ("ab", "abc", "ac", "a") for prime in (None, 2, 3)]
+        for one, two in itertools.product(range(len(new)), repeat=2):
+            self.assertIs(new[one] == new[two], one == two)
         for one, two in itertools.combinations(range(8), 2):
             self.assertIs(unlike[one] == unlike[two], (one, two) == (0, 5))
 

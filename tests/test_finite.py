@@ -240,6 +240,10 @@ class LimitsTest(Case):
             self.too_many(12, sum_of, more + choices("ab", 13, prime))
             self.too_many(400, sum_of, choices("abc", 6, prime))
             self.too_many(400, sum_of, choices("ab", 12, prime))
+            # there are far more weights than could be listed
+            for tally in (choices("ab", 40, prime), choices("abc", 12, prime)):
+                for value in (paper, ("sum", ()), ("sum", (("a", 1),))):
+                    self.assertFalse(is_tell_paper(tally, value))
             self.assertEqual(len(sum_of(choices("abc", 5, prime))), 243)
 
     def test_many_weights_at_few_patterns(self):

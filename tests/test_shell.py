@@ -198,6 +198,10 @@ class LinesTest(Case):
                      "reader new a 0 b 0 yes yes", "reader new a x b 0 yes", "reader new a 0 b 0 no 0", "reader a 0 b 0 yes 0", "reader new a 0 b 0 yes =a", "", " ", "what", "done",
                      "pop", "push=ab", "push", "=ab", "pushes =ab", "size 1", "number", "repeat", "help"):
             self.check_what(line)
+        # an empty word is none, where a name or a text is wanted, too
+        for line in ("push ", "numbers ", "count ", "repeat ", "undo ", "drop ", "hold ", "number ", "rank ", "period  =ab", "period pairs ", "round even ", "names ", "sum ", "sum  1 =ab",
+                     "sum new 1 ", "sum new  =ab", "reader  a 0 b 0 yes", "reader new a 0 b 0 yes "):
+            self.check_what(line)
 
     def test_words_of_another_kind(self):
         for line in ("push ab", "push 1", "push =aB", "push =a1", "push ==", "push =a=", "push =\u00e9", "lead ab", "numbers ab", "numbers pairs", "count ab", "count 1", "count =A",
